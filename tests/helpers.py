@@ -1,0 +1,220 @@
+"""What several tests need: webs of many kinds, walks counted the slow way, and checks of errors."""
+
+import random
+from fractions import Fraction
+from itertools import product as all_of
+
+from upsanddowns.errors import BadForm, RanksError, UnmetNeed
+from upsanddowns.joins import thick
+from upsanddowns.kept import Kept
+from upsanddowns.makers import chain
+from upsanddowns.numbers import Numbers
+from upsanddowns.own import thick_numbers
+from upsanddowns.webs import Web
+
+
+def words_to(length):
+    """All words of at most so many letters."""
+    return ["".join(letters) for many in range(length + 1) for letters in all_of("ud", repeat=many)]
+
+
+def random_table(dice, rows, columns, most):
+    return [[dice.choice([0, dice.randint(0, most)]) for _ in range(columns)] for _ in range(rows)]
+
+
+def random_web(seed, sizes, most=3):
+    """A web with any strands, unlike ones as a rule."""
+    dice = random.Random(seed)
+    pairs = list(zip(sizes, sizes[1:]))
+    ups = [random_table(dice, one, two, most) for one, two in pairs]
+    downs = [random_table(dice, one, two, most) for one, two in pairs]
+    return Web(ups, downs=downs, sizes=sizes)
+
+
+def random_even(seed, sizes, most=3):
+    dice = random.Random(seed)
+    return Web([random_table(dice, one, two, most) for one, two in zip(sizes, sizes[1:])], sizes=sizes)
+
+
+def any_webs():
+    """Webs that need not keep any numbers, with empty ranks and without places among them."""
+    return [
+        Web([], sizes=[0]),
+        Web([], sizes=[3]),
+        Web([[], []], sizes=[0, 0, 0]),
+        random_web(1, [1, 2, 3]),
+        random_web(2, [2, 3, 2, 1]),
+        random_web(3, [0, 2, 0, 2, 2]),
+        random_web(4, [3, 1, 3, 2]),
+        random_even(5, [2, 2, 3]),
+        random_even(6, [1, 3, 2, 2]),
+        Web.shapes(3),
+        Web.subsets(3),
+    ]
+
+
+def reflect(kept):
+    """The kept web with one rank more that copies the two ranks at its top."""
+    web, top = kept.web, kept.top
+    q, r = kept.pair_at(top)
+    size, lower = web.sizes[top], web.sizes[top - 1] if top > 0 else 0
+    unit = [[int(x == y) for y in range(size)] for x in range(size)]
+    ups = [q * [web.downs[top - 1][z][x] for z in range(lower)] + r * unit[x] for x in range(size)]
+    downs = [q * [web.ups[top - 1][z][x] for z in range(lower)] + r * unit[x] for x in range(size)]
+    length = q * lower + r * size
+    more = Web(
+        list(web.ups) + [ups], downs=list(web.downs) + [downs], sizes=list(web.sizes) + [length]
+    )
+    return Kept(more, kept.numbers)
+
+
+def reflected(kept, times):
+    for _ in range(times):
+        kept = reflect(kept)
+    return kept
+
+
+def renumbered(web, seed):
+    """The web with the places of each rank in another order."""
+    dice = random.Random(seed)
+    orders = [dice.sample(range(size), size) for size in web.sizes]
+    ups, downs = [[
+        [[table[x][y] for y in orders[at + 1]] for x in orders[at]] for at, table in enumerate(tables)
+    ] for tables in (web.ups, web.downs)]
+    return Web(ups, downs=downs, sizes=web.sizes)
+
+
+MIXED = Numbers([(1, 2), (2, 1), (1, 1), (2, 0), (1, 3)])
+
+
+def even_kept():
+    """Even kept webs."""
+    one = Numbers.steady(1, 1)
+    return [
+        Kept(Web.shapes(5), one),
+        Kept(Web.words(5), one),
+        Kept(Web.subsets(4), Numbers.falling(4)),
+        Kept(Web.subsets(3).empty_rank(), Numbers.falling(3)),
+        Kept(Web.spaces(3), Numbers([(1, 2 ** (3 - n) - 2 ** n) for n in range(3)])),
+        Kept(Web.tree([2, 1, 3]), Numbers([(0, 2), (0, 1), (0, 3)])),
+        Kept(Web.shapes(3) * Web.shapes(3), Numbers.steady(1, 2)),
+        Kept(Web.shapes(3) >> 2, Numbers.steady(1, 1).raised(2, (4, -3))),
+        reflected(Kept(Web([], sizes=[2]), Numbers([(5, 1), (2, 1)], tail=(1, 1))), 3),
+        Kept(Web([], sizes=[2]), MIXED),
+        Kept(Web([], sizes=[0]), MIXED),
+    ]
+
+
+def unlike_kept():
+    """Kept webs whose up strands and down strands differ."""
+    lively = Numbers([(1, 3), (2, -1), (0, 2), (3, 1), (1, 2)])
+    shapes = Kept(Web.shapes(4), Numbers.steady(1, 1))
+    rows = [(2, 1), (1, 2), (3, 2), (6, 1)]
+    found = [
+        Kept(chain(lively, 0, 4), lively),
+        Kept(chain(lively, 0, 4) + chain(lively, 2, 4) + chain(lively, 3, 4), lively),
+        Kept(thick(shapes.web, rows), thick_numbers(shapes, rows)),
+        reflected(Kept(chain(MIXED, 0, 2), MIXED), 2),
+        Kept(chain(Numbers.falling(3), 0, 5), Numbers.falling(3)),
+    ]
+    found.append(Kept(renumbered(found[2].web, 7), found[2].numbers))
+    found.append(Kept(renumbered(found[3].web, 8), found[3].numbers))
+    found.append(found[2].exchanged())
+    return found
+
+
+def all_kept():
+    return even_kept() + unlike_kept()
+
+
+def places_at(web, rank):
+    return [(rank, x) for x in range(web.sizes[rank])]
+
+
+def places_of(web):
+    return [place for rank in range(web.top + 1) for place in places_at(web, rank)]
+
+
+def slow_walks(web, place, word):
+    """All walks by the word, one step behind the other; the word must not climb above the top."""
+    if word == "":
+        return [()]
+    rank, x = place
+    found = []
+    if word[0] == "u":
+        steps = [((rank + 1, y), web.ups[rank][x][y]) for y in range(web.sizes[rank + 1])]
+    elif rank == 0:
+        steps = []
+    else:
+        steps = [((rank - 1, z), web.downs[rank - 1][z][x]) for z in range(web.sizes[rank - 1])]
+    for other, many in steps:
+        for strand in range(many):
+            for rest in slow_walks(web, other, word[1:]):
+                found.append(((word[0], strand, other[1]),) + rest)
+    return found
+
+
+def heights_of(rank, word):
+    row = [rank]
+    for letter in word:
+        row.append(row[-1] + (1 if letter == "u" else -1))
+    return row
+
+
+def stays(web, rank, word):
+    row = heights_of(rank, word)
+    return min(row) >= 0 and max(row) <= web.top
+
+
+def table_of(web, rank, word):
+    """The counts by a word that stays in the ranks, computed table by table with whole tables."""
+    size = web.sizes[rank]
+    table = [[int(x == y) for y in range(size)] for x in range(size)]
+    for letter in word:
+        if letter == "u":
+            step = [list(row) for row in web.ups[rank]]
+            width = web.sizes[rank + 1]
+            rank += 1
+        else:
+            width = web.sizes[rank - 1]
+            step = [[web.downs[rank - 1][z][x] for z in range(width)] for x in range(web.sizes[rank])]
+            rank -= 1
+        table = [[sum(row[y] * step[y][z] for y in range(len(step))) for z in range(width)] for row in table]
+    return tuple(tuple(row) for row in table)
+
+
+def mult(one, other):
+    width = len(other[0]) if other else 0
+    return tuple(tuple(sum(a * row[z] for a, row in zip(line, other)) for z in range(width)) for line in one)
+
+
+def plus(one, other, scale=1):
+    return tuple(tuple(a + scale * b for a, b in zip(x, y)) for x, y in zip(one, other))
+
+
+def unit(size, value=1):
+    return tuple(tuple(value if x == y else 0 for y in range(size)) for x in range(size))
+
+
+def all_tuples(value):
+    """True if there is no list, dict or bool at any depth."""
+    if isinstance(value, tuple):
+        return all(all_tuples(one) for one in value)
+    return not isinstance(value, (list, dict, set, bool))
+
+
+def fraction(pair):
+    row, den = pair
+    return [Fraction(entry, den) for entry in row]
+
+
+class Errors:
+    """Mixed into a test case: an error, its attributes, and where it stands."""
+
+    def refused(self, error, told, call, *args, **more):
+        with self.assertRaises(RanksError) as caught:
+            call(*args, **more)
+        self.assertIs(type(caught.exception), error, msg=repr(caught.exception))
+        self.assertEqual(vars(caught.exception), told)
+        self.assertTrue(isinstance(caught.exception, (BadForm, UnmetNeed)))
+        return caught.exception

@@ -1,0 +1,166 @@
+"""What holds for every call: lists or tuples in, tuples out, nothing changed, and the promised sizes."""
+
+import copy
+import random
+import unittest
+
+from upsanddowns.alike import alike_words
+from upsanddowns.amounts import plain, product_of
+from upsanddowns.joins import beside, pair_of, place_of, product, raised_by, thick
+from upsanddowns.judging import above, below, breach, judge, read_numbers
+from upsanddowns.kept import Kept
+from upsanddowns.makers import chain
+from upsanddowns.normal import joined, normal_row, normal_terms, told_count, told_counts
+from upsanddowns.numbers import Numbers
+from upsanddowns.own import product_pair, thick_numbers, told_apart
+from upsanddowns.texts import web_from, web_text
+from upsanddowns.twosteps import down_up, factor, fading, mirror_row, times, up_down
+from upsanddowns.unseen import OneTable, one_table
+from upsanddowns.walks import count, counts, lowered, raised, walk_back, walks_of
+from upsanddowns.webs import Web
+from upsanddowns.weights import is_balanced, ring_apart, weights
+from upsanddowns.words import heights, parted
+
+from tests.helpers import all_tuples, any_webs
+
+WEB = Web([[[1, 2]], [[1, 0], [2, 1]]], downs=[[[2, 1]], [[1, 1], [0, 1]]])
+KEPT = Kept(Web.shapes(4), Numbers.steady(1, 1))
+
+
+def tables(web):
+    return (web.sizes, web.ups, web.downs)
+
+
+# Each call with its arguments as lists; the answers are plain values.
+CALLS = [
+    (lambda row: plain(row, 6), [[2, 4]]),
+    (lambda row: (product_of(row),), [[2, 4]]),
+    (lambda ups, downs, sizes: tables(Web(ups, downs=downs, sizes=sizes)), [[[[1, 2]]], [[[0, 1]]], [1, 2]]),
+    (lambda ups: tables(Web(ups)), [[[[1, 2]]]]),
+    (lambda children: tables(Web.tree(children)), [[2, 0, 1]]),
+    (lambda ups, downs: tables(WEB.grown(ups, downs)), [[[1], [2]], [[3], [0]]]),
+    (lambda place, other: (count(WEB, place, "uud", other),), [[0, 0], [1, 1]]),
+    (lambda place: counts(WEB, place, "uud"), [[0, 0]]),
+    (lambda place: tuple(walks_of(WEB, place, "uud")), [[0, 0]]),
+    (lambda place, walk: walk_back(WEB, place, "ud", walk), [[0, 0], [["u", 1, 1], ["d", 0, 0]]]),
+    (lambda reading: raised(WEB, 1, reading), [[3, -4]]),
+    (lambda reading: lowered(WEB, 1, reading), [[3, -4]]),
+    (lambda chosen: parted("uudd", chosen), [[3, 0]]),
+    (lambda one, two: place_of(WEB, WEB, one, two), [[1, 0], [1, 1]]),
+    (lambda place: pair_of(WEB, WEB, place), [[2, 3]]),
+    (lambda rows: tables(thick(WEB, rows)), [[[2, 1], [1, 3]]]),
+    (lambda pairs, tail: (Numbers(pairs, tail=tail).pairs, Numbers(pairs, tail=tail).tail), [[[1, 2], [0, 3]], [2, 2]]),
+    (lambda pair: Numbers([]).changed(2, pair).pairs, [[4, 5]]),
+    (lambda pair: Numbers([]).raised(2, pair).pairs, [[4, 5]]),
+    (lambda place, other: (KEPT.count(place, "uudd", other),), [[2, 0], [2, 1]]),
+    (lambda ups: tables(KEPT.cut(1).grown(ups).web), [[[1, 1]]]),
+    (lambda rows: thick_numbers(KEPT, rows).pairs, [[[1, 1], [1, 2], [2, 2], [4, 1]]]),
+    (lambda place, other: (told_count(KEPT, place, "uuuddd", other),), [[3, 0], [3, 1]]),
+    (lambda place: told_counts(KEPT, place, "uuuddd"), [[3, 0]]),
+    (lambda table: factor(table, 2, 1), [[[1, 2], [3, 4]]]),
+    (lambda one, two: times(one, two), [[[1, 2]], [[3], [4]]]),
+    (lambda above_table: OneTable(Numbers([]), 2, above_table).up_down(3), [[[2, 1], [1, 2]]]),
+]
+
+
+def as_tuples(value):
+    return tuple(as_tuples(one) for one in value) if isinstance(value, list) else value
+
+
+def same_kinds(one, two):
+    """True if both are equal and of one kind at every depth."""
+    if type(one) is not type(two):
+        return False
+    if isinstance(one, tuple):
+        return len(one) == len(two) and all(same_kinds(a, b) for a, b in zip(one, two))
+    return one == two
+
+
+class ConventionsTest(unittest.TestCase):
+    def test_lists_and_tuples(self):
+        for at, (call, args) in enumerate(CALLS):
+            with self.subTest(at=at):
+                given = copy.deepcopy(args)
+                found = call(*given)
+                self.assertTrue(all_tuples(found))
+                self.assertEqual(given, args)
+                self.assertTrue(same_kinds(given, args) or isinstance(given, list))
+                self.assertTrue(same_kinds(call(*[as_tuples(one) for one in args]), found))
+                self.assertTrue(same_kinds(call(*given), found))
+
+    def test_results_are_tuples(self):
+        numbers = Numbers([(1, 2), (2, 1)])
+        found = [
+            heights("udu", 2), WEB.up_row(0, 0), WEB.down_row(1, 0), tables(beside(WEB, WEB)),
+            tables(product(WEB, WEB)), tables(raised_by(WEB, 2)), tables(~WEB), tables(WEB.cut(1)),
+            tables(WEB.empty_rank()), tables(Web.shapes(3)), tables(Web.subsets(3)), tables(Web.spaces(2)),
+            tables(Web.words(4)), weights(Web.shapes(3)), tables(chain(numbers, 1, 4)), numbers[0], numbers[9],
+            below(WEB, 1), above(WEB, 1), breach(WEB, 1, 1, 1), judge(KEPT.web, 2).pair, judge(KEPT.web, 1).line,
+            judge(WEB, 1).places, normal_row(numbers, "uudd", 2), normal_terms(numbers, "uudd", 2),
+            joined(numbers, 2, "uu", "dd"), up_down(KEPT, 2, 2), down_up(KEPT, 2, 2), fading(KEPT, 3),
+            mirror_row(numbers, 2, 2), one_table(KEPT, 2).down_up(1), alike_words(numbers, "uudd", 1),
+            told_apart(KEPT, 3), ring_apart(Web([[[1]]], downs=[[[0]]])), KEPT.sizes, KEPT.below(2), KEPT.above(2),
+            KEPT.pair_at(1), Numbers.falling(2).dead_pair(4),
+        ]
+        for at, one in enumerate(found):
+            self.assertIsInstance(one, tuple, msg=at)
+            self.assertTrue(all_tuples(one), msg=at)
+
+    def test_integers_are_no_bools(self):
+        for one in (WEB.top, WEB[0], len(WEB), count(WEB, (0, 0), "", (0, 0)), count(WEB, (0, 0), "d", (0, 0)),
+                    Numbers([]).gain(0, 1), Numbers([]).swaps(0, 0), told_count(KEPT, (0, 0), "", (0, 0)),
+                    product_pair(KEPT, KEPT, 1), one_table(KEPT, 1).count(0, "ud", 0), KEPT.top):
+            self.assertIs(type(one), int)
+        for web in any_webs():
+            for table in web.ups + web.downs:
+                self.assertTrue(all(type(entry) is int for row in table for entry in row))
+
+    def test_bools_are_bools(self):
+        for one in (WEB.is_even, WEB.is_simple, WEB.is_fresh(0, 0), is_balanced(WEB), KEPT.lively,
+                    Numbers([]).is_plain, Numbers([]).is_positive, Numbers([]).lively_to(3), WEB == WEB,
+                    judge(WEB, 0).allows(1, 1)):
+            self.assertIs(type(one), bool)
+
+
+class SizesTest(unittest.TestCase):
+    """Each of these takes a moment, as long as nothing is listed that is only counted."""
+
+    def table(self, dice):
+        return [[dice.randint(0, 10 ** 12) for _ in range(40)] for _ in range(40)]
+
+    def test_great_webs(self):
+        dice = random.Random(5)
+        web = Web([self.table(dice) for _ in range(11)], downs=[self.table(dice) for _ in range(11)])
+        word = "uuuudddduudd"
+        row = counts(web, (5, 3), word)
+        self.assertEqual(count(web, (5, 3), word, (5, 7)), row[7])
+        walk = next(walks_of(web, (5, 3), word, limit=10 ** 300))
+        self.assertEqual(walk_back(~web, (5, walk[-1][2]), "uudduuuudddd", walk_back(web, (5, 3), word, walk)), walk)
+        self.assertIsNone(weights(web))
+        self.assertEqual(judge(web, 5).word, "none")
+        self.assertEqual(web_from(web_text(web)), web)
+
+    def test_great_kept_webs(self):
+        many = 10 ** 12
+        diagonal = [[many if x == y else 0 for x in range(40)] for y in range(40)]
+        ones = [[int(x == y) for x in range(40)] for y in range(40)]
+        downs = [diagonal] + [ones] * 10
+        web = Web([ones] * 11, downs=downs)
+        kept = Kept(web, read_numbers(web))
+        self.assertEqual(told_count(kept, (11, 3), "uuuuuudddddd", (11, 4)), 0)
+        self.assertGreater(told_count(kept, (11, 3), "uuuuuudddddd", (11, 3)), 0)
+        self.assertEqual(len(up_down(kept, 11, 6)), 40)
+        self.assertEqual(len(down_up(kept, 11, 6)), 40)
+        self.assertFalse(any(any(row) for row in fading(kept, 11)))
+
+    def test_great_numbers(self):
+        many = 10 ** 12
+        numbers = Numbers([(many - n, many - 3 * n) for n in range(30)], tail=(many, -many))
+        self.assertEqual(joined(numbers, 6, "uududd", "uuuddd"), normal_row(numbers, "uududduuuddd", 6))
+        row, den = mirror_row(numbers, 12, 12)
+        self.assertEqual(len(row), 13)
+        self.assertIn("uuuuuddddd", alike_words(numbers, "uuuuuddddd", 11))
+
+
+if __name__ == "__main__":
+    unittest.main()

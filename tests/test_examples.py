@@ -1,0 +1,82 @@
+"""The examples of the interface give the answers that stand there."""
+
+import unittest
+
+from upsanddowns.alike import apart_start
+from upsanddowns.errors import NotKept
+from upsanddowns.judging import above, below, judge
+from upsanddowns.kept import Kept
+from upsanddowns.normal import normal_row, told_count
+from upsanddowns.numbers import Numbers
+from upsanddowns.texts import web_text
+from upsanddowns.twosteps import mirror_row
+from upsanddowns.unseen import OneTable
+from upsanddowns.walks import walks_of
+from upsanddowns.webs import Web
+from upsanddowns.weights import weights
+
+
+class ExamplesTest(unittest.TestCase):
+    def test_web(self):
+        web = Web([[[1, 2]], [[1], [0]]])
+        self.assertEqual(
+            [web.sizes, web.top, web.is_even, web.is_simple, web.up_row(0, 0), web.down_row(2, 0), web.is_fresh(1, 1)],
+            [(1, 2, 1), 2, True, False, (1, 2), (1, 0), False],
+        )
+
+    def test_text(self):
+        self.assertEqual(web_text(Web([[[1]]], downs=[[[0]]])), "unlike\nrank 0 size 1\nrank 1 size 1\nup 0 0 1")
+
+    def test_walks(self):
+        self.assertEqual(
+            list(walks_of(Web.shapes(3), (1, 0), "ud")),
+            [(("u", 0, 0), ("d", 0, 0)), (("u", 0, 1), ("d", 0, 0))],
+        )
+
+    def test_weights(self):
+        self.assertEqual(weights(Web([[[2, 1]]], downs=[[[1, 1]]])), ((2,), (1, 2)))
+
+    def test_numbers(self):
+        falling = Numbers.falling(3)
+        self.assertEqual(
+            [falling.gain(0, 1), falling.gain(0, 2), falling.gain(0, 3), falling.gain(0, 4),
+             falling.val(0, 1, "ud"), falling.dead_pair(3), falling.dead_pair(4)],
+            [3, 4, 3, 0, 4, (1, 2), (1, 2)],
+        )
+
+    def test_judging(self):
+        web = Web.shapes(3)
+        self.assertEqual(
+            [below(web, 2), above(web, 2), judge(web, 2).word, judge(web, 2).pair, judge(web, 0).line],
+            [((1, 1), (1, 1)), ((2, 1), (1, 2)), "one", (1, 1), (0, 1)],
+        )
+
+    def test_kept(self):
+        with self.assertRaises(NotKept) as caught:
+            Kept(Web([[[1], [2]]]), Numbers.steady(1, 1))
+        self.assertEqual((caught.exception.rank, caught.exception.first, caught.exception.second), (0, 0, 1))
+
+    def test_words(self):
+        one = Numbers.steady(1, 1)
+        kept = Kept(Web.shapes(2), one)
+        self.assertEqual(
+            [normal_row(one, "uudd", 2), normal_row(one, "uudd", 1), told_count(kept, (2, 0), "uudd", (2, 1))],
+            [(1, 4, 2), (0, 4, 2), 5],
+        )
+
+    def test_one_table(self):
+        table = OneTable(Numbers.steady(1, 1), 2, [[2, 1], [1, 2]])
+        self.assertEqual(
+            [table.table_below, table.down_up(2), table.up_down(2), table.count(0, "uudd", 1)],
+            [((1, 1), (1, 1)), ((1, 1), (1, 1)), ((7, 5), (5, 7)), 5],
+        )
+
+    def test_mirror_and_late_chain(self):
+        one = Numbers.steady(1, 1)
+        self.assertEqual(
+            [mirror_row(Numbers.steady(2, 3), 1, 1), apart_start(one, "udud", "uudd", 1)], [((-3, 1), 2), 1]
+        )
+
+
+if __name__ == "__main__":
+    unittest.main()

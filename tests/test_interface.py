@@ -1,0 +1,124 @@
+"""Each name of the interface stands where it is listed, with the arguments that are listed."""
+
+import ast
+import importlib
+import inspect
+import pathlib
+import unittest
+
+PACKAGE = pathlib.Path(__file__).resolve().parent.parent / "upsanddowns"
+
+FUNCTIONS = {
+    "amounts": ["is_int(one)", "check_number(name, one, least)", "product_of(row)", "plain(row, den)"],
+    "texts": ["web_text(web)", "web_from(text)"],
+    "words": [
+        "check_word(word)", "rise(word)", "heights(word, rank)", "dips(word, rank)", "climb(word, rank)",
+        "turned(word)", "parted(word, chosen)",
+    ],
+    "walks": [
+        "count(web, place, word, other)", "counts(web, place, word)", "walks_of(web, place, word, *, limit=500)",
+        "walk_back(web, place, word, walk)", "raised(web, rank, reading)", "lowered(web, rank, reading)",
+    ],
+    "joins": [
+        "beside(first, *rest)", "product(one, other)", "exchanged(web)", "place_of(one, other, first, second)",
+        "pair_of(one, other, place)", "raised_by(web, many)", "thick(web, rows)",
+    ],
+    "weights": ["weights(web)", "ring_apart(web)", "is_balanced(web)"],
+    "makers": ["chain(numbers, start, top)"],
+    "numbers": ["last_alive(numbers, start, most)", "first_not_above(numbers, start, most)"],
+    "judging": [
+        "below(web, rank)", "above(web, rank)", "breach(web, rank, q, r)", "keeps(web, rank, q, r)",
+        "judge(web, rank)", "read_numbers(web)",
+    ],
+    "own": [
+        "own_numbers(kept, rank)", "told_apart(kept, rank)", "product_pair(one, other, rank)",
+        "thick_numbers(kept, rows)",
+    ],
+    "normal": [
+        "normal_row(numbers, word, rank)", "normal_terms(numbers, word, rank)",
+        "told_count(kept, place, word, other)", "told_counts(kept, place, word)",
+        "joined(numbers, rank, first, second)",
+    ],
+    "twosteps": [
+        "up_down(kept, rank, steps)", "down_up(kept, rank, steps)", "factor(table, scale, shift)",
+        "times(one, other)", "mirror_row(numbers, rank, steps)", "fading(kept, rank)",
+    ],
+    "unseen": ["one_table(kept, rank)", "same_words(kept, rank, other, other_rank)"],
+    "alike": [
+        "are_alike(numbers, word, other, rank)", "apart_start(numbers, word, other, rank)",
+        "same_everywhere(numbers, word, other, rank)", "alike_words(numbers, word, rank)",
+    ],
+}
+
+CLASSES = {
+    ("webs", "Web"): [
+        "__init__(self, ups, *, downs=None, sizes=None)", "__getitem__(self, at)", "__len__(self)", "__iter__(self)",
+        "__eq__(self, other)", "__add__(self, other)", "__mul__(self, other)", "__invert__(self)",
+        "__rshift__(self, other)", "up_row(self, rank, place)", "down_row(self, rank, place)",
+        "is_fresh(self, rank, place)", "cut(self, rank)", "grown(self, ups, downs=None)", "empty_rank(self)",
+        "shapes(cls, top)", "subsets(cls, many)", "spaces(cls, many)", "words(cls, top)", "tree(cls, children)",
+        "top(self)", "is_even(self)", "is_simple(self)",
+    ],
+    ("numbers", "Numbers"): [
+        "__init__(self, pairs, *, tail=(1, 1))", "__eq__(self, other)", "__getitem__(self, at)",
+        "steady(cls, q, r)", "falling(cls, many)", "is_positive(self)", "is_plain(self)", "gain(self, start, steps)",
+        "gains(self, start, steps)", "swaps(self, start, steps)", "val(self, start, rank, word)",
+        "changed(self, rank, pair)", "moved(self, many)", "raised(self, many, pair=(1, 1))",
+        "dead_pair(self, rank)", "lively_to(self, rank)",
+    ],
+    ("judging", "Judged"): ["allows(self, q, r)"],
+    ("kept", "Kept"): [
+        "__init__(self, web, numbers)", "__eq__(self, other)", "top(self)", "lively(self)", "below(self, rank)",
+        "above(self, rank)", "count(self, place, word, other)", "pair_at(self, rank)", "cut(self, rank)",
+        "grown(self, ups, downs=None)", "exchanged(self)", "beside(self, other)",
+    ],
+    ("unseen", "OneTable"): [
+        "__init__(self, numbers, rank, above)", "size(self)", "down_up(self, steps)", "up_down(self, steps)",
+        "count(self, place, word, other)",
+    ],
+}
+
+PROPERTIES = {
+    ("webs", "Web"): ["top", "is_even", "is_simple"],
+    ("numbers", "Numbers"): ["is_positive", "is_plain"],
+    ("kept", "Kept"): ["top", "lively"],
+}
+
+
+def told(node):
+    """A function as the interface writes it."""
+    return f"{node.name}({ast.unparse(node.args)})"
+
+
+def parsed(name):
+    return ast.parse((PACKAGE / f"{name}.py").read_text(encoding="utf-8")).body
+
+
+class InterfaceTest(unittest.TestCase):
+    def test_functions(self):
+        for name, rows in FUNCTIONS.items():
+            found = [told(node) for node in parsed(name) if isinstance(node, ast.FunctionDef)]
+            for row in rows:
+                self.assertIn(row, found, msg=name)
+
+    def test_classes(self):
+        for (name, title), rows in CLASSES.items():
+            nodes = [node for node in parsed(name) if isinstance(node, ast.ClassDef) and node.name == title]
+            self.assertEqual(len(nodes), 1, msg=title)
+            found = [told(node) for node in nodes[0].body if isinstance(node, ast.FunctionDef)]
+            for row in rows:
+                self.assertIn(row, found, msg=title)
+
+    def test_properties(self):
+        for (name, title), rows in PROPERTIES.items():
+            owner = getattr(importlib.import_module(f"upsanddowns.{name}"), title)
+            for row in rows:
+                self.assertIsInstance(vars(owner)[row], property)
+
+    def test_generator(self):
+        walks = importlib.import_module("upsanddowns.walks")
+        self.assertTrue(inspect.isgeneratorfunction(walks.walks_of))
+
+
+if __name__ == "__main__":
+    unittest.main()

@@ -1,0 +1,1 @@
+"""Ranked webs that keep their numbers, and walks that nobody has seen."""

@@ -1,0 +1,54 @@
+"""The checks of arguments that many calls share. Each one raises the error of the first fault."""
+
+from upsanddowns.amounts import is_int
+from upsanddowns.errors import BadPlace, BadRank, BadReading, Unseen
+from upsanddowns.forms import is_int_row, is_row_of
+
+
+def check_rank(sizes, rank):
+    """The rank itself, if a web with these sizes has it."""
+    if not is_int(rank) or not 0 <= rank < len(sizes):
+        raise BadRank(rank)
+    return rank
+
+
+def check_any_rank(rank):
+    """The rank itself, if it is an integer not below 0."""
+    return check_rank_from(rank, 0)
+
+
+def check_rank_from(rank, least):
+    """The rank itself, if it is an integer not below least."""
+    if not is_int(rank) or rank < least:
+        raise BadRank(rank)
+    return rank
+
+
+def check_place_at(sizes, rank, place):
+    """The number of the place, where rank and number are told as two arguments."""
+    check_rank(sizes, rank)
+    if not is_int(place) or not 0 <= place < sizes[rank]:
+        raise BadPlace(rank, place)
+    return place
+
+
+def check_place(sizes, place):
+    """The place as a tuple, if a web with these sizes has it."""
+    if not is_row_of(place, 2):
+        raise BadPlace(-1, place)
+    check_place_at(sizes, place[0], place[1])
+    return (place[0], place[1])
+
+
+def check_reading(sizes, rank, reading):
+    """The reading as a tuple, if the rank has as many places as the reading has integers."""
+    if not is_int_row(reading, sizes[rank]):
+        raise BadReading(rank)
+    return tuple(reading)
+
+
+def check_seen(sizes, rank):
+    """The rank itself, if it is not above the top."""
+    if rank >= len(sizes):
+        raise Unseen(rank)
+    return rank
