@@ -30,6 +30,7 @@ class MakingTest(Errors, unittest.TestCase):
         self.assertTrue(Numbers([], tail=(1, 2)) == Numbers([(1, 2)], tail=(1, 2)))
         self.assertFalse(Numbers([(1, 2)]) == Numbers([(1, 2)], tail=(1, 2)))
         self.assertTrue(Numbers([(1, 2)]) != Numbers([(1, 3)]))
+        self.assertFalse(Numbers([(1, 2)], tail=(1, 3)) == Numbers([(1, 2)], tail=(1, 4)))
         for other in (None, 1, (), ((), (1, 1)), [], mock.ANY):
             self.assertIs(Numbers([]).__eq__(other), False)
 

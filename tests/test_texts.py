@@ -95,6 +95,8 @@ class ReadingTest(Errors, unittest.TestCase):
         self.assertEqual(web_from(start + "up 1 2 1").ups, (((0, 0, 0), (0, 0, 1)),))
         self.bad(5, "unlike\n" + start + "down 1 2 1\ndown 1 2 1")
         self.bad(4, "unlike\n" + start + "down 2 0 1")
+        for line in ("downs 0 0 1", "ups 0 0 1", "Down 0 0 1", "side 0 0 1", " 0 0 1", "0 0 1"):
+            self.bad(4, "unlike\n" + start + line)
         self.assertEqual(
             web_from("unlike\n" + start + "down 1 2 1\nup 1 2 1"), Web([[[0, 0, 0], [0, 0, 1]]], sizes=[2, 3])
         )

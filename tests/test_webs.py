@@ -76,6 +76,8 @@ class MakingTest(Errors, unittest.TestCase):
         self.bad_size(2, [[5], []])
         self.bad_table(1, "ups", [[5], [5]])
         self.bad_table(0, "ups", [[5], [[1]]])
+        self.bad_table(1, "ups", [[5], [5, [1]]])
+        self.bad_table(0, "ups", [[5], [[1], 5]])
 
     def test_tables(self):
         for table in (5, [[1], [1]], [], [[1, 1]], [[]], [5], [[-1]], [[True]], [["1"]], [[1.0]], [None]):
@@ -116,6 +118,7 @@ class AskingTest(Errors, unittest.TestCase):
         self.assertFalse(self.web != other)
         self.assertFalse(self.web == Web([[[1, 2]], [[1], [1]]]))
         self.assertFalse(self.web == Web([[[1, 2]], [[1], [0]]], downs=[[[1, 2]], [[1], [1]]]))
+        self.assertFalse(Web([[[1]]], downs=[[[2]]]) == Web([[[3]]], downs=[[[2]]]))
         self.assertFalse(Web([[], []], sizes=[0, 0, 1]) == Web([[], []], sizes=[0, 0, 2]))
         for other in (None, 1, (1, 2, 1), "web", [1, 2, 1], mock.ANY):
             self.assertIs(self.web.__eq__(other), False)

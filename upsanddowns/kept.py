@@ -5,9 +5,9 @@ from upsanddowns.judging import above, below, breach
 from upsanddowns.walks import count
 
 
-def pairs_to(numbers, top):
-    """The pairs of the ranks 0 to top."""
-    return [numbers[rank] for rank in range(top + 1)]
+def pairs_of(kept):
+    """The pairs of the ranks of a kept web, the top included."""
+    return [kept.numbers[rank] for rank in range(len(kept.sizes))]
 
 
 class Kept:
@@ -31,12 +31,7 @@ class Kept:
         return self.numbers.lively_to(len(self.sizes) - 1)
 
     def __eq__(self, other):
-        if not isinstance(other, Kept):
-            return False
-        if self.web != other.web:
-            return False
-        last = len(self.sizes) - 1
-        return pairs_to(self.numbers, last) == pairs_to(other.numbers, last)
+        return isinstance(other, Kept) and self.web == other.web and pairs_of(self) == pairs_of(other)
 
     def below(self, rank):
         """The walks down and up between the places of the rank."""

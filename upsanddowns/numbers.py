@@ -48,9 +48,7 @@ class Numbers:
         raise TypeError("numbers are not iterated over")
 
     def __eq__(self, other):
-        if not isinstance(other, Numbers):
-            return False
-        return self.pairs == other.pairs and self.tail == other.tail
+        return isinstance(other, Numbers) and self.pairs == other.pairs and self.tail == other.tail
 
     @property
     def is_positive(self):

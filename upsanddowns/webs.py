@@ -96,9 +96,10 @@ class Web:
         return iter(self.sizes)
 
     def __eq__(self, other):
-        if not isinstance(other, Web):
-            return False
-        return self.sizes == other.sizes and self.ups == other.ups and self.downs == other.downs
+        return (
+            isinstance(other, Web) and self.sizes == other.sizes
+            and self.ups == other.ups and self.downs == other.downs
+        )
 
     def __add__(self, other):
         if not isinstance(other, Web):

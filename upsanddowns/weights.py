@@ -98,7 +98,9 @@ def ring_through(parents, one, other):
     """The ring of the tie of two places and of the ties along which they were reached."""
     path = path_to_root(parents, one)
     back = path_to_root(parents, other)
-    while len(path) > 1 and len(back) > 1 and path[-2] == back[-2]:
+    # Places are reached by fewest ties, so neither of the two was reached through the other one,
+    # and the paths part before one of them ends.
+    while path[-2] == back[-2]:
         path.pop()
         back.pop()
     return tuple(path + back[:-1][::-1])
@@ -131,13 +133,11 @@ def ring_apart(web):
 
 def least_of(rates):
     """The least integers that are in the proportion of these fractions, by place."""
+    # One of the fractions is 1 and all are in lowest terms, so no integer divides all results.
     wholes = 1
     for place in rates:
         wholes = lcm(wholes, rates[place][1])
-    shared = 0
-    for place in rates:
-        shared = gcd(shared, rates[place][0] * wholes // rates[place][1])
-    return {place: rates[place][0] * wholes // rates[place][1] // shared for place in rates}
+    return {place: rates[place][0] * wholes // rates[place][1] for place in rates}
 
 
 def weights(web):
