@@ -91,6 +91,52 @@ def local_names(function):
     return found | {node.name for node in ast.walk(function) if isinstance(node, ast.ExceptHandler) and node.name}
 
 
+CHANGING = ("append", "extend", "insert", "pop", "remove", "clear", "reverse", "update", "setdefault")
+
+
+def held_name(node):
+    """The name by which a value is held: a variable, or the last attribute."""
+    return getattr(node, "id", getattr(node, "attr", None))
+
+
+def names_in(node):
+    """All names and attributes in an expression."""
+    return {held_name(one) for one in ast.walk(node) if isinstance(one, (ast.Name, ast.Attribute))}
+
+
+def changed_in(rows):
+    """The names whose lists or dicts are changed in these statements."""
+    found = set()
+    for one in ast.walk(ast.Module(body=rows, type_ignores=[])):
+        if isinstance(one, ast.Call) and isinstance(one.func, ast.Attribute) and one.func.attr in CHANGING:
+            found.add(held_name(one.func.value))
+        if isinstance(one, ast.Subscript) and isinstance(one.ctx, (ast.Store, ast.Del)):
+            found.add(held_name(one.value))
+    return found - {None}
+
+
+def choices_of(value):
+    """The names of which a value may be one, without any copy between."""
+    if isinstance(value, (ast.Name, ast.Attribute)):
+        return [held_name(value)]
+    if isinstance(value, ast.IfExp):
+        return choices_of(value.body) + choices_of(value.orelse)
+    if isinstance(value, ast.BoolOp):
+        return [name for one in value.values for name in choices_of(one)]
+    return []
+
+
+def grouped_names(function):
+    """The names of a function that may hold one value, each with a common name of its group."""
+    groups = {}
+    for node in ast.walk(function):
+        if isinstance(node, ast.Assign):
+            names = [name for one in node.targets + [node.value] for name in choices_of(one)]
+            roots = [groups.setdefault(name, name) for name in names]
+            groups = {name: roots[0] if root in roots else root for name, root in groups.items()}
+    return groups
+
+
 class FilesTest(unittest.TestCase):
     def test_folder(self):
         for path in PACKAGE.rglob("*"):
@@ -332,17 +378,28 @@ class CodeTest(unittest.TestCase):
                     self.assertIn(id(node), good, msg=f"{path}:{node.lineno}")
 
     def test_loops_do_not_change_what_they_go_over(self):
-        changing = ("append", "extend", "insert", "pop", "remove", "clear", "reverse", "update", "setdefault")
-        for where, node in self.each(ast.For):
-            names = {one.id for one in ast.walk(node.iter) if isinstance(one, ast.Name)}
-            names |= {one.attr for one in ast.walk(node.iter) if isinstance(one, ast.Attribute)}
-            for one in ast.walk(ast.Module(body=node.body, type_ignores=[])):
-                if isinstance(one, ast.Call) and isinstance(one.func, ast.Attribute) and one.func.attr in changing:
-                    held = one.func.value
-                    self.assertNotIn(getattr(held, "id", getattr(held, "attr", None)), names, msg=where)
-                if isinstance(one, ast.Subscript) and isinstance(one.ctx, ast.Store):
-                    held = one.value
-                    self.assertNotIn(getattr(held, "id", getattr(held, "attr", None)), names, msg=where)
+        for path, tree in TREES.items():
+            for function in functions_of(tree):
+                groups = grouped_names(function)
+                for node in ast.walk(function):
+                    if isinstance(node, ast.For):
+                        changed = {groups.get(name, name) for name in changed_in(node.body)}
+                        walked = {groups.get(name, name) for name in names_in(node.iter)}
+                        self.assertEqual(changed & walked, set(), msg=(path, node.lineno))
+
+    def test_names_that_pass_through_one_another(self):
+        # Here the list that is walked becomes the list that grows, one round later.
+        text = """def reach(start):
+    queue = [start]
+    while len(queue) > 0:
+        later = []
+        for place in queue:
+            later.append(place)
+        queue = later
+"""
+        function = ast.parse(text).body[0]
+        groups = grouped_names(function)
+        self.assertEqual(groups["queue"], groups["later"])
 
 
 if __name__ == "__main__":

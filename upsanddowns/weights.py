@@ -61,16 +61,17 @@ def piece_from(web, start):
     rates = {start: (1, 1)}
     parents = {start: None}
     queue = [start]
-    while len(queue) > 0:
-        later = []
-        for place in queue:
-            part, whole = rates[place]
-            for other, out, back in ties_from(web, place):
-                if other not in rates:
-                    rates[other] = lowest(part * back, whole * out)
-                    parents[other] = place
-                    later.append(other)
-        queue = later
+    at = 0
+    # The queue grows while it is gone through, so it is gone through by numbers.
+    while at < len(queue):
+        place = queue[at]
+        part, whole = rates[place]
+        for other, out, back in ties_from(web, place):
+            if other not in rates:
+                rates[other] = lowest(part * back, whole * out)
+                parents[other] = place
+                queue.append(other)
+        at += 1
     return rates, parents
 
 
