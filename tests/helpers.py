@@ -116,15 +116,128 @@ def unlike_kept():
         Kept(thick(shapes.web, rows), thick_numbers(shapes, rows)),
         reflected(Kept(chain(MIXED, 0, 2), MIXED), 2),
         Kept(chain(Numbers.falling(3), 0, 5), Numbers.falling(3)),
-    ]
+    ] + unbalanced_kept()
     found.append(Kept(renumbered(found[2].web, 7), found[2].numbers))
     found.append(Kept(renumbered(found[3].web, 8), found[3].numbers))
     found.append(found[2].exchanged())
     return found
 
 
+def unbalanced_kept():
+    """Kept webs without weights: strands of one sort alone, and rings that differ by direction."""
+    numbers = Numbers([(1, 3), (1, 1), (2, 1)])
+    alone = Web([[[1, 1]], [[1, 0], [0, 1]]], downs=[[[3, 0]], [[4, 0], [3, 1]]])
+    ring = Kept(Web.shapes(2), Numbers([(1, 1), (1, 1), (5, 2)])).grown([[1, 2], [2, 1]], [[1, 3], [3, 1]])
+    less = Web([[[1, 1]], [[1, 0], [0, 1]]], downs=[[[2, 2]], [[1, 2], [2, 1]]])
+    return [
+        Kept(alone, numbers), reflected(Kept(alone, numbers), 1), ring,
+        Kept(less, Numbers([(1, 4), (1, -1)], tail=(2, 7))), unbalanced_falling(),
+    ]
+
+
+def unbalanced_falling():
+    """A web without weights that keeps falling numbers at all of their ranks, and a rank above."""
+    ones = [[int(x == y) for y in range(3)] for x in range(3)]
+    web = Web(
+        [[[1, 1, 1]], ones, [[1], [0], [0]], [[0, 0]]],
+        downs=[[[3, 0, 0]], [[4, 0, 0], [3, 1, 0], [3, 0, 1]], [[3], [3], [3]], [[0, 0]]],
+    )
+    return Kept(web, Numbers.falling(3))
+
+
+def falling_kept():
+    """Webs that keep falling numbers at the ranks 0 to M, with M."""
+    found = [(Kept(Web.subsets(m).empty_rank(), Numbers.falling(m)), m) for m in range(5)]
+    four = Numbers.falling(4)
+    webs = Web.subsets(4).empty_rank() + chain(four, 1, 5) + chain(four, 2, 5)
+    return found + [(Kept(webs, four), 4), (unbalanced_falling(), 3)]
+
+
 def all_kept():
     return even_kept() + unlike_kept()
+
+
+def lively_kept():
+    return [kept for kept in all_kept() if kept.lively]
+
+
+def rule_kept():
+    """Kept webs in which rules can be made."""
+    return [kept for kept in all_kept() if all(kept.pair_at(n)[1] >= 0 for n in range(kept.top))]
+
+
+def pairs_at(kept, rank):
+    return [(x, other) for x in range(kept.sizes[rank]) for other in range(kept.sizes[rank])]
+
+
+def closed_words(length):
+    """All words of rise 0 of at most so many letters."""
+    return [word for word in words_to(length) if word.count("u") == word.count("d")]
+
+
+def turning(steps, upward=True):
+    return "u" * steps + "d" * steps if upward else "d" * steps + "u" * steps
+
+
+def slow_determinant(table):
+    """The determinant by the first row."""
+    if not table:
+        return 1
+    return sum(
+        (-1) ** at * entry * slow_determinant([list(row[:at]) + list(row[at + 1:]) for row in table[1:]])
+        for at, entry in enumerate(table[0])
+        if entry != 0
+    )
+
+
+def slow_rank(table):
+    """The rank by elimination with fractions."""
+    rows = [[Fraction(entry) for entry in row] for row in table]
+    rank = 0
+    for column in range(len(rows[0]) if rows else 0):
+        found = [at for at in range(rank, len(rows)) if rows[at][column] != 0]
+        if found:
+            rows[rank], rows[found[0]] = rows[found[0]], rows[rank]
+            for at in range(rank + 1, len(rows)):
+                scale = rows[at][column] / rows[rank][column]
+                rows[at] = [one - scale * two for one, two in zip(rows[at], rows[rank])]
+            rank += 1
+    return rank
+
+
+def powers(table, times):
+    """The table times itself."""
+    found = unit(len(table))
+    for _ in range(times):
+        found = mult(found, table)
+    return found
+
+
+def with_diagonal(table, scale, shift):
+    """Scale times the table with shift added on the diagonal."""
+    return plus(tuple(tuple(scale * entry for entry in row) for row in table), unit(len(table), shift))
+
+
+def readings_of(seed, size):
+    """Some readings of a rank with so many places."""
+    dice = random.Random(seed)
+    found = [tuple(int(x == y) for y in range(size)) for x in range(size)]
+    found += [tuple(dice.randint(-9, 9) for _ in range(size)) for _ in range(2)]
+    return found + [(0,) * size]
+
+
+def lift(web, rank, row, steps):
+    """The row of integers or fractions raised so many times."""
+    for at in range(rank, rank + steps):
+        row = [sum(web.ups[at][x][y] * row[x] for x in range(web[at])) for y in range(web[at + 1])]
+    return list(row)
+
+
+def sink(web, rank, row, steps):
+    """The row lowered so many times."""
+    for at in range(rank - 1, rank - steps - 1, -1):
+        row = [sum(web.downs[at][x][y] * row[y] for y in range(web[at + 1])) for x in range(web[at])]
+    return list(row)
 
 
 def places_at(web, rank):

@@ -6,14 +6,25 @@ import unittest
 
 from upsanddowns.alike import alike_words
 from upsanddowns.amounts import plain, product_of
+from upsanddowns.closed import closed_total, sizes_beneath, sizes_by_totals
+from upsanddowns.grids import determinant, minor, nulls, rank_of, solve
 from upsanddowns.joins import beside, pair_of, place_of, product, raised_by, thick
 from upsanddowns.judging import above, below, breach, judge, read_numbers
 from upsanddowns.kept import Kept
+from upsanddowns.levels import core, level_of, parts, pure_basis, pure_part, pure_row, pures
+from upsanddowns.living import alive, forbidden, late_sum, norm, pures_by_sizes
 from upsanddowns.makers import chain
 from upsanddowns.normal import joined, normal_row, normal_terms, told_count, told_counts
 from upsanddowns.numbers import Numbers
 from upsanddowns.own import product_pair, thick_numbers, told_apart
+from upsanddowns.readback import back_row, is_blind, is_image, read_back, seen_from
+from upsanddowns.rules import OwnRule, Rule, ShiftRule, peaks, rule_count, tokens
+from upsanddowns.sizes import determinant_by_sizes, multiplicity, product_by_sizes, root_row, size_steps
+from upsanddowns.strands import (
+    down_ways, has_strands, single_ways, spread_row, spread_word, strand_numbers, up_ways,
+)
 from upsanddowns.texts import web_from, web_text
+from upsanddowns.totals import all_words, by_formula, picks, total
 from upsanddowns.twosteps import down_up, factor, fading, mirror_row, times, up_down
 from upsanddowns.unseen import OneTable, one_table
 from upsanddowns.walks import count, counts, lowered, raised, walk_back, walks_of
@@ -25,6 +36,7 @@ from tests.helpers import all_tuples, any_webs
 
 WEB = Web([[[1, 2]], [[1, 0], [2, 1]]], downs=[[[2, 1]], [[1, 1], [0, 1]]])
 KEPT = Kept(Web.shapes(4), Numbers.steady(1, 1))
+RULE = Rule(KEPT)
 
 
 def tables(web):
@@ -60,6 +72,26 @@ CALLS = [
     (lambda table: factor(table, 2, 1), [[[1, 2], [3, 4]]]),
     (lambda one, two: times(one, two), [[[1, 2]], [[3], [4]]]),
     (lambda above_table: OneTable(Numbers([]), 2, above_table).up_down(3), [[[2, 1], [1, 2]]]),
+    (lambda place: (up_ways(WEB, place, 2), down_ways(WEB, place, 0)), [[0, 0]]),
+    (lambda table: (determinant(table), rank_of(table), nulls(table)), [[[1, 2], [2, 4]]]),
+    (lambda table, target: solve(table, target), [[[1, 2], [3, 5]], [1, 1]]),
+    (lambda table, rows, columns: (minor(table, rows, columns),), [[[1, 2], [3, 5]], [1, 0], [0, 1]]),
+    (lambda reading: pure_part(KEPT, 3, reading), [[3, 1, 4]]),
+    (lambda reading: parts(KEPT, 3, reading), [[3, 1, 4]]),
+    (lambda reading: core(KEPT, 3, reading, 2), [[3, 1, 4]]),
+    (lambda reading: (level_of(KEPT, 3, reading),), [[1, 2, 1]]),
+    (lambda reading: read_back(KEPT, 2, 1, reading), [[1, 3, 2]]),
+    (lambda reading: (int(is_image(KEPT, 2, 1, reading)), int(is_blind(KEPT, 2, 1, reading))), [[1, 3, 2]]),
+    (lambda reading: seen_from(KEPT, 2, 1, reading), [[1, 2]]),
+    (lambda sizes: (closed_total(KEPT.numbers, sizes, 1, "uudd"),), [[1, 1, 2]]),
+    (lambda table: sizes_beneath(KEPT.numbers, 2, table), [[[2, 1], [1, 2]]]),
+    (lambda totals: sizes_by_totals(KEPT.numbers, 1, totals), [[1, 2]]),
+    (lambda sizes: (pures_by_sizes(KEPT.numbers, sizes), forbidden(KEPT.numbers, sizes)), [[1, 1, 2]]),
+    (lambda sizes: tables(late_sum(KEPT.numbers, sizes)), [[1, 1, 2]]),
+    (lambda rows, reading: (norm(KEPT.web, rows, 2, reading),), [[[1], [1], [2, 3], [1, 1, 1]], [4, 5]]),
+    (lambda shifts: (ShiftRule(KEPT, shifts).shifts, ShiftRule(KEPT, shifts).match(1, 0, 0)), [[[], [1], [2, 0], []]]),
+    (lambda matches: (OwnRule(KEPT, matches).matches, OwnRule(KEPT, matches).match(1, 0, 0)), [[[1, 0, 0, [1, 0]]]]),
+    (lambda peak, token: (RULE.token_of(2, 0, 0, peak), RULE.peak_of(2, 0, 0, token)), [[0, 0, 0], [0]]),
 ]
 
 
@@ -101,6 +133,12 @@ class ConventionsTest(unittest.TestCase):
             mirror_row(numbers, 2, 2), one_table(KEPT, 2).down_up(1), alike_words(numbers, "uudd", 1),
             told_apart(KEPT, 3), ring_apart(Web([[[1]]], downs=[[[0]]])), KEPT.sizes, KEPT.below(2), KEPT.above(2),
             KEPT.pair_at(1), Numbers.falling(2).dead_pair(4),
+            strand_numbers(KEPT.web, 2), spread_row(numbers, numbers, 2, 3), spread_word(numbers, numbers, 2, "ud"),
+            nulls([[1, 2]]), solve([[1, 2]], [3]), size_steps(WEB), root_row(KEPT, 3), pure_basis(KEPT.web, 3),
+            pure_basis(KEPT.web, 0), pure_row(numbers, 2), parts(KEPT, 2, (1, 0)), back_row(numbers, 1, 2),
+            sizes_beneath(KEPT.numbers, 2, KEPT.above(2)), sizes_by_totals(KEPT.numbers, 1, (1, 2), upward=False),
+            pures_by_sizes(numbers, (1, 2)), tables(late_sum(numbers, (1, 2))), peaks(KEPT, 2, 0, 0),
+            tokens(KEPT, 2, 0, 0), RULE.token_numbers(2, 0, 0), RULE.match(2, 0, 0),
         ]
         for at, one in enumerate(found):
             self.assertIsInstance(one, tuple, msg=at)
@@ -109,7 +147,14 @@ class ConventionsTest(unittest.TestCase):
     def test_integers_are_no_bools(self):
         for one in (WEB.top, WEB[0], len(WEB), count(WEB, (0, 0), "", (0, 0)), count(WEB, (0, 0), "d", (0, 0)),
                     Numbers([]).gain(0, 1), Numbers([]).swaps(0, 0), told_count(KEPT, (0, 0), "", (0, 0)),
-                    product_pair(KEPT, KEPT, 1), one_table(KEPT, 1).count(0, "ud", 0), KEPT.top):
+                    product_pair(KEPT, KEPT, 1), one_table(KEPT, 1).count(0, "ud", 0), KEPT.top,
+                    total(KEPT, 0, "ud"), total(KEPT, 0, "u"), picks("ud", 0), picks("ud", 2),
+                    all_words(Numbers([]), 1, 2, 0, 0), by_formula(1, 2, 0, 0), by_formula(1, 1, 0, 0),
+                    up_ways(WEB, (0, 0), 0), down_ways(WEB, (0, 0), 1), single_ways(KEPT.numbers, KEPT.numbers, 0, 1),
+                    determinant([]), rank_of([]), minor([[1]], [], []), determinant_by_sizes(KEPT, 1, -1),
+                    multiplicity(KEPT, 1, 9), product_by_sizes(KEPT, 1, 0), pures(WEB, 1),
+                    level_of(KEPT, 1, (1,)), closed_total(KEPT.numbers, [1], 0, "u"), norm(WEB, [[1]], 0, [1]),
+                    forbidden(Numbers([]), [2, 1]), rule_count(KEPT, 0)):
             self.assertIs(type(one), int)
         for web in any_webs():
             for table in web.ups + web.downs:
@@ -118,7 +163,8 @@ class ConventionsTest(unittest.TestCase):
     def test_bools_are_bools(self):
         for one in (WEB.is_even, WEB.is_simple, WEB.is_fresh(0, 0), is_balanced(WEB), KEPT.lively,
                     Numbers([]).is_plain, Numbers([]).is_positive, Numbers([]).lively_to(3), WEB == WEB,
-                    judge(WEB, 0).allows(1, 1)):
+                    judge(WEB, 0).allows(1, 1), has_strands(WEB, 0, 1, 1), alive(KEPT.numbers, 0, 0),
+                    alive(KEPT.numbers, 1, 0), is_image(KEPT, 1, 0, (1,)), is_blind(KEPT, 1, 0, (1,))):
             self.assertIs(type(one), bool)
 
 
@@ -152,6 +198,29 @@ class SizesTest(unittest.TestCase):
         self.assertEqual(len(up_down(kept, 11, 6)), 40)
         self.assertEqual(len(down_up(kept, 11, 6)), 40)
         self.assertFalse(any(any(row) for row in fading(kept, 11)))
+
+    def test_great_levels(self):
+        dice = random.Random(6)
+        numbers = Numbers([(10 ** 12 - n, 10 ** 12 - 3 * n) for n in range(12)])
+        sizes = sorted(dice.randint(1, 40) for _ in range(12))
+        kept = Kept(late_sum(numbers, sizes), numbers)
+        self.assertEqual(total(kept, 11, "uuuuuudddddd"), closed_total(numbers, sizes, 11, "uuuuuudddddd"))
+        self.assertEqual(sizes_beneath(numbers, 10, kept.above(10)), tuple(sizes[:11]))
+        self.assertEqual(determinant(kept.above(10)), determinant_by_sizes(kept, 10, 0))
+        totals = [total(kept, 11, "d" * j + "u" * j) for j in range(12)]
+        self.assertEqual(sizes_by_totals(numbers, 11, totals, upward=False), tuple(sizes))
+        reading = [dice.randint(-99, 99) for _ in range(sizes[8])]
+        self.assertEqual(read_back(kept, 8, 3, seen_from(kept, 8, 3, reading)), (tuple(reading), 1))
+        self.assertEqual(len(parts(kept, 11, list(range(sizes[11])))), 12)
+        self.assertEqual(pures(kept.web, 11), sizes[11] - sizes[10])
+
+    def test_great_grids(self):
+        table = self.table(random.Random(7))
+        row, den = solve(table, [1] * 40)
+        self.assertEqual([sum(one * two for one, two in zip(line, row)) for line in table], [den] * 40)
+        wide = [line + [sum(line)] for line in table]
+        self.assertEqual(nulls(wide), ((1,) * 40 + (-1,),))
+        self.assertEqual(rank_of(wide), 40)
 
     def test_great_numbers(self):
         many = 10 ** 12

@@ -3,11 +3,18 @@
 import unittest
 
 from upsanddowns.alike import apart_start
+from upsanddowns.closed import sizes_beneath
 from upsanddowns.errors import NotKept
 from upsanddowns.judging import above, below, judge
 from upsanddowns.kept import Kept
+from upsanddowns.levels import parts, pure_row
+from upsanddowns.living import forbidden, late_sum, pures_by_sizes
 from upsanddowns.normal import normal_row, told_count
 from upsanddowns.numbers import Numbers
+from upsanddowns.readback import back_row
+from upsanddowns.rules import Rule
+from upsanddowns.sizes import determinant_by_sizes
+from upsanddowns.strands import single_ways
 from upsanddowns.texts import web_text
 from upsanddowns.twosteps import mirror_row
 from upsanddowns.unseen import OneTable
@@ -74,8 +81,34 @@ class ExamplesTest(unittest.TestCase):
     def test_mirror_and_late_chain(self):
         one = Numbers.steady(1, 1)
         self.assertEqual(
-            [mirror_row(Numbers.steady(2, 3), 1, 1), apart_start(one, "udud", "uudd", 1)], [((-3, 1), 2), 1]
+            [mirror_row(Numbers.steady(2, 3), 1, 1), apart_start(one, "udud", "uudd", 1), single_ways(one, one, 0, 4)],
+            [((-3, 1), 2), 1, 10],
         )
+
+    def test_levels(self):
+        kept = Kept(Web.subsets(3), Numbers.falling(3))
+        self.assertEqual(
+            [determinant_by_sizes(kept, 1, 1), pure_row(kept.numbers, 1), parts(kept, 1, (1, 0, 0))],
+            [20, ((3, -1), 3), (((1, 1, 1), 3), ((2, -1, -1), 3))],
+        )
+
+    def test_reading_back(self):
+        falling = Numbers.falling(3)
+        self.assertEqual(
+            [back_row(falling, 1, 1), sizes_beneath(falling, 1, [[2, 1, 1], [1, 2, 1], [1, 1, 2]])],
+            [((4, -1), 4), (1, 3)],
+        )
+
+    def test_living(self):
+        falling = Numbers.falling(2)
+        self.assertEqual(
+            [pures_by_sizes(falling, (1, 2, 1)), late_sum(falling, (1, 2, 1)).downs, forbidden(falling, (1, 1, 2, 2))],
+            [(1, 1, 0), (((2, 0),), ((2,), (0,))), 2],
+        )
+
+    def test_rules(self):
+        kept = Kept(Web.shapes(2), Numbers.steady(1, 1))
+        self.assertEqual(Rule(kept).match(1, 0, 0), (((0, 0, 0), (0, 0, 0, 0)), ((1, 0, 0), (0,))))
 
 
 if __name__ == "__main__":

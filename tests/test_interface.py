@@ -48,6 +48,40 @@ FUNCTIONS = {
         "are_alike(numbers, word, other, rank)", "apart_start(numbers, word, other, rank)",
         "same_everywhere(numbers, word, other, rank)", "alike_words(numbers, word, rank)",
     ],
+    "totals": [
+        "total(kept, rank, word)", "picks(word, many)", "all_words(numbers, rank, length, downs, ups)",
+        "by_formula(r, length, downs, ups)",
+    ],
+    "strands": [
+        "strand_numbers(web, rank)", "has_strands(web, rank, g, f)", "up_ways(web, place, steps)",
+        "down_ways(web, place, steps)", "spread_row(numbers, strands, rank, steps)",
+        "single_ways(numbers, strands, start, steps)", "spread_word(numbers, strands, rank, word)",
+    ],
+    "grids": [
+        "determinant(table)", "rank_of(table)", "nulls(table)", "solve(table, target)", "minor(table, rows, columns)",
+    ],
+    "sizes": [
+        "size_steps(web)", "root_row(kept, rank)", "determinant_by_sizes(kept, rank, shift)",
+        "multiplicity(kept, rank, number)", "product_by_sizes(kept, rank, steps)",
+    ],
+    "levels": [
+        "pures(web, rank)", "pure_basis(web, rank)", "pure_row(numbers, rank)", "pure_part(kept, rank, reading)",
+        "parts(kept, rank, reading)", "core(kept, rank, reading, level)", "level_of(kept, rank, reading)",
+    ],
+    "readback": [
+        "back_row(numbers, rank, steps)", "read_back(kept, rank, steps, reading)",
+        "is_image(kept, rank, steps, reading)", "is_blind(kept, rank, steps, reading)",
+        "seen_from(kept, rank, steps, reading)",
+    ],
+    "closed": [
+        "closed_total(numbers, sizes, rank, word)", "sizes_beneath(numbers, rank, above)",
+        "sizes_by_totals(numbers, rank, totals, *, upward=True)",
+    ],
+    "living": [
+        "alive(numbers, start, rank)", "pures_by_sizes(numbers, sizes)", "forbidden(numbers, sizes)",
+        "late_sum(numbers, sizes)", "norm(web, weights, rank, reading)",
+    ],
+    "rules": ["peaks(kept, rank, x, other)", "tokens(kept, rank, x, other)", "rule_count(kept, rank)"],
 }
 
 CLASSES = {
@@ -76,6 +110,12 @@ CLASSES = {
         "__init__(self, numbers, rank, above)", "size(self)", "down_up(self, steps)", "up_down(self, steps)",
         "count(self, place, word, other)",
     ],
+    ("rules", "Rule"): [
+        "__init__(self, kept)", "token_numbers(self, rank, x, other)", "match(self, rank, x, other)",
+        "token_of(self, rank, x, other, peak)", "peak_of(self, rank, x, other, token)",
+    ],
+    ("rules", "ShiftRule"): ["__init__(self, kept, shifts)", "token_numbers(self, rank, x, other)"],
+    ("rules", "OwnRule"): ["__init__(self, kept, matches)", "token_numbers(self, rank, x, other)"],
 }
 
 PROPERTIES = {

@@ -243,7 +243,8 @@ class CodeTest(unittest.TestCase):
         for where, node in self.each(ast.Name):
             self.assertFalse(node.id.startswith("__"), msg=where)
         for where, node in self.each(ast.Attribute):
-            self.assertFalse(node.attr.startswith("__"), msg=where)
+            if node.attr.startswith("__"):
+                self.assertEqual(ast.unparse(node), "super().__init__", msg=where)
 
     def test_init_returns_nothing(self):
         for where, node in self.each(ast.FunctionDef):

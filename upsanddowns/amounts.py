@@ -34,3 +34,10 @@ def plain(row, den):
     for one in row:
         shared = gcd(shared, one)
     return tuple([one // shared for one in row]), den // shared
+
+
+def plain_by(row, den):
+    """The scaled reading that stands for the row divided by den, which is unlike 0 and may be below 0."""
+    if den < 0:
+        return plain([-one for one in row], -den)
+    return plain(row, den)

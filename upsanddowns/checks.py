@@ -1,8 +1,8 @@
 """The checks of arguments that many calls share. Each one raises the error of the first fault."""
 
 from upsanddowns.amounts import is_int
-from upsanddowns.errors import BadPlace, BadRank, BadReading, Unseen
-from upsanddowns.forms import is_int_row, is_row_of
+from upsanddowns.errors import BadPlace, BadRank, BadReading, BadSize, NotEven, NotLively, NotPositive, Unseen
+from upsanddowns.forms import is_count, is_int_row, is_row, is_row_of
 
 
 def check_rank(sizes, rank):
@@ -52,3 +52,46 @@ def check_seen(sizes, rank):
     if rank >= len(sizes):
         raise Unseen(rank)
     return rank
+
+
+def check_sizes(sizes):
+    """The sizes as a tuple, if they are a row of at least one integer, none of them below 0."""
+    if not is_row(sizes) or len(sizes) == 0:
+        raise BadSize(-1)
+    for rank, size in enumerate(sizes):
+        if not is_count(size):
+            raise BadSize(rank)
+    return tuple(sizes)
+
+
+def check_even(web):
+    """Raises NotEven for the first rank whose up strands and down strands above it differ."""
+    for rank in range(web.top):
+        if web.ups[rank] != web.downs[rank]:
+            raise NotEven(rank)
+
+
+def check_lively(numbers, rank):
+    """Raises NotLively unless the numbers are lively up to the rank."""
+    dead = numbers.dead_pair(rank)
+    if dead is not None:
+        raise NotLively(dead[0], dead[1])
+
+
+def end_that_tells(numbers, start, end):
+    """A lesser end at which it is enough to stop, since all ranks behind the told pairs have one pair."""
+    return min(end, max(start, len(numbers.pairs)) + 1)
+
+
+def check_q_positive(numbers, start, end):
+    """Raises NotPositive for the first rank from the start on, below the end, whose q is 0."""
+    for rank in range(start, end_that_tells(numbers, start, end)):
+        if numbers[rank][0] == 0:
+            raise NotPositive(rank)
+
+
+def check_r_not_below(numbers, start, end):
+    """Raises NotPositive for the first rank from the start on, below the end, whose r is below 0."""
+    for rank in range(start, end_that_tells(numbers, start, end)):
+        if numbers[rank][1] < 0:
+            raise NotPositive(rank)

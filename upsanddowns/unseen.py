@@ -1,8 +1,8 @@
 """One table of a rank tells all closed walks from the rank, whatever lies beneath it."""
 
 from upsanddowns.amounts import check_number, is_int
-from upsanddowns.checks import check_any_rank, check_rank, check_seen
-from upsanddowns.errors import BadPlace, BadTable, NoneSuch, NotPositive
+from upsanddowns.checks import check_any_rank, check_q_positive, check_rank, check_seen
+from upsanddowns.errors import BadPlace, BadTable, NoneSuch
 from upsanddowns.forms import frozen, is_count_table, is_row
 from upsanddowns.normal import normal_terms
 from upsanddowns.tables import entries_of, is_nought, shifted, table_product, unit_table, zero_table
@@ -46,9 +46,7 @@ class OneTable:
         check_any_rank(rank)
         if not is_row(above) or not is_count_table(above, len(above), len(above)):
             raise BadTable(rank, "ups")
-        for at in range(1, rank + 1):
-            if numbers[at][0] == 0:
-                raise NotPositive(at)
+        check_q_positive(numbers, 1, rank + 1)
         self.numbers = numbers
         self.rank = rank
         self.table_above = frozen(above)

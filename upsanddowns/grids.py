@@ -1,0 +1,163 @@
+"""Tables of any integers: determinants, ranks, nulls, solutions and minors, without fractions."""
+
+from math import gcd
+
+from upsanddowns.amounts import is_int, plain_by
+from upsanddowns.errors import BadLot, BadReading, BadTable
+from upsanddowns.forms import is_int_row, is_int_table, is_row, is_square_table
+
+
+def width_of(table):
+    """The number of columns; a table without rows has none."""
+    return len(table[0]) if len(table) > 0 else 0
+
+
+def pivot_row(rows, start, column):
+    """The first row from the start on with an entry unlike 0 in the column, None if there is none."""
+    for at in range(start, len(rows)):
+        if rows[at][column] != 0:
+            return at
+    return None
+
+
+def exchanged_rows(rows, first, second):
+    """The rows with two of them exchanged."""
+    found = list(rows)
+    found[first] = rows[second]
+    found[second] = rows[first]
+    return found
+
+
+def cleared(rows, at, column, lead):
+    """The rows with the column's entries of all rows but number at made 0; lead is the last pivot."""
+    # All entries are minors of the table at each step, so dividing by the last pivot leaves no rest.
+    pivot = rows[at]
+    scale = pivot[column]
+    return [
+        row if number == at
+        else [(scale * one - row[column] * two) // lead for one, two in zip(row, pivot)]
+        for number, row in enumerate(rows)
+    ]
+
+
+def eliminated(table, width):
+    """The rows with the first columns eliminated, the pivot columns, the last pivot, and the sign.
+
+    Row k has the last pivot in pivot column number k, and all other rows have 0 there; the rows
+    behind them have 0 in all of the first columns.
+    """
+    rows = [list(row) for row in table]
+    pivots = []
+    lead = 1
+    sign = 1
+    for column in range(width):
+        at = len(pivots)
+        found = pivot_row(rows, at, column)
+        if found is not None:
+            if found > at:
+                rows = exchanged_rows(rows, at, found)
+                sign = -sign
+            rows = cleared(rows, at, column, lead)
+            lead = rows[at][column]
+            pivots.append(column)
+    return rows, pivots, lead, sign
+
+
+def check_table(table):
+    """Raises BadTable unless the table is made of integers, in rows of one length."""
+    if not is_int_table(table):
+        raise BadTable(0, "ups")
+
+
+def determinant_of(table):
+    """The determinant of a square table."""
+    _, pivots, lead, sign = eliminated(table, len(table))
+    return sign * lead if len(pivots) == len(table) else 0
+
+
+def determinant(table):
+    """The determinant of a square table, 1 if it has no rows."""
+    if not is_square_table(table):
+        raise BadTable(0, "ups")
+    return determinant_of(table)
+
+
+def rank_of(table):
+    """The number of linearly independent rows."""
+    check_table(table)
+    return len(eliminated(table, width_of(table))[1])
+
+
+def lowest_row(row):
+    """The row divided so that no integer divides all entries and the first one unlike 0 is above 0."""
+    first = 0
+    shared = 0
+    for entry in row:
+        shared = gcd(shared, entry)
+        if first == 0:
+            first = entry
+    divisor = -shared if first < 0 else shared
+    return tuple([entry // divisor for entry in row])
+
+
+def null_of(rows, pivots, lead, width, free):
+    """The row that the table takes to 0 and that has 0 at the other free columns."""
+    row = [0] * width
+    row[free] = lead
+    for at, column in enumerate(pivots):
+        row[column] = -rows[at][free]
+    return lowest_row(row)
+
+
+def nulls(table):
+    """A row for each free column that the table takes to 0, by ascending free columns."""
+    check_table(table)
+    width = width_of(table)
+    rows, pivots, lead, _ = eliminated(table, width)
+    return tuple([
+        null_of(rows, pivots, lead, width, free)
+        for free in range(width)
+        if free not in pivots
+    ])
+
+
+def solution_of(table, target):
+    """The scaled reading that the table takes to the target, with 0 at the free columns, or None."""
+    width = width_of(table)
+    wide = [list(row) + [entry] for row, entry in zip(table, target)]
+    rows, pivots, lead, _ = eliminated(wide, width)
+    if any([row[width] for row in rows[len(pivots):]]):
+        return None
+    found = [0] * width
+    for at, column in enumerate(pivots):
+        found[column] = rows[at][width]
+    return plain_by(found, lead)
+
+
+def solve(table, target):
+    """The scaled reading that the table takes to the target, with 0 at the free columns, or None."""
+    check_table(table)
+    if not is_int_row(target, len(table)):
+        raise BadReading(0)
+    return solution_of(table, target)
+
+
+def check_numbers_of(row, many):
+    """Raises BadLot unless the row holds unlike integers from 0 to many - 1."""
+    if not is_row(row):
+        raise BadLot(-1)
+    told = {}
+    for at, one in enumerate(row):
+        if not is_int(one) or not 0 <= one < many or one in told:
+            raise BadLot(at)
+        told[one] = True
+
+
+def minor(table, rows, columns):
+    """The determinant of the entries at these rows and columns, taken in this order."""
+    check_table(table)
+    check_numbers_of(rows, len(table))
+    check_numbers_of(columns, width_of(table))
+    if len(rows) != len(columns):
+        raise BadLot(-1)
+    return determinant_of([[table[row][column] for column in columns] for row in rows])
