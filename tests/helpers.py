@@ -10,6 +10,7 @@ from upsanddowns.kept import Kept
 from upsanddowns.makers import chain
 from upsanddowns.numbers import Numbers
 from upsanddowns.own import thick_numbers
+from upsanddowns.rules import OwnRule, Rule, ShiftRule
 from upsanddowns.webs import Web
 
 
@@ -164,6 +165,36 @@ def lively_kept():
 def rule_kept():
     """Kept webs in which rules can be made."""
     return [kept for kept in all_kept() if all(kept.pair_at(n)[1] >= 0 for n in range(kept.top))]
+
+
+def some_rules(kept, seed):
+    """Rules of each kind but the even one."""
+    dice = random.Random(seed)
+    shifts = [[dice.randint(0, 9) for _ in range(dice.randint(0, 3))] for _ in range(kept.top)]
+    matches = []
+    for n in range(kept.top):
+        for x, other in pairs_at(kept, n):
+            many = kept.above(n)[x][other]
+            if dice.random() < 0.6:
+                matches.append([n, x, other, dice.sample(range(many), many)])
+    dice.shuffle(matches)
+    return [Rule(kept), ShiftRule(kept, shifts), OwnRule(kept, matches)]
+
+
+def small_kept():
+    """Kept webs with rules and few walks, even and unlike ones, with empty ranks and labels among them."""
+    one = Numbers.steady(1, 1)
+    return [
+        Kept(Web.shapes(3), one),
+        Kept(Web.words(4), one),
+        Kept(Web.subsets(3).cut(2), Numbers.falling(3)),
+        Kept(Web.tree([2, 1, 2]), Numbers([(0, 2), (0, 1), (0, 2)])),
+        Kept(Web.shapes(2) >> 1, one),
+        Kept(Web([[[2]], [[1, 2]]], sizes=[1, 1, 2]), Numbers([(1, 4), (1, 1)])),
+        unbalanced_kept()[0],
+        reflected(Kept(Web([[[1]]]), Numbers([(1, 1), (3, 0), (0, 2)])), 2),
+        Kept(Web([[[1]], [[1]]], downs=[[[2]], [[2]]]), Numbers([(3, 2), (1, 0)])),
+    ]
 
 
 def pairs_at(kept, rank):

@@ -7,13 +7,18 @@ import unittest
 from upsanddowns.alike import alike_words
 from upsanddowns.amounts import plain, product_of
 from upsanddowns.closed import closed_total, sizes_beneath, sizes_by_totals
+from upsanddowns.corners import corner_many, corner_ranks, grid
+from upsanddowns.downsides import downs_many, downs_of, grown_with
+from upsanddowns.fillings import Filling, check_filling, filling_count, fillings_of
 from upsanddowns.grids import determinant, minor, nulls, rank_of, solve
 from upsanddowns.joins import beside, pair_of, place_of, product, raised_by, thick
 from upsanddowns.judging import above, below, breach, judge, read_numbers
 from upsanddowns.kept import Kept
+from upsanddowns.leading import lead, lead_word
 from upsanddowns.levels import core, level_of, parts, pure_basis, pure_part, pure_row, pures
 from upsanddowns.living import alive, forbidden, late_sum, norm, pures_by_sizes
 from upsanddowns.makers import chain
+from upsanddowns.needs import may_end, need, next_fits, reflected, reflected_to
 from upsanddowns.normal import joined, normal_row, normal_terms, told_count, told_counts
 from upsanddowns.numbers import Numbers
 from upsanddowns.own import product_pair, thick_numbers, told_apart
@@ -25,18 +30,30 @@ from upsanddowns.strands import (
 )
 from upsanddowns.texts import web_from, web_text
 from upsanddowns.totals import all_words, by_formula, picks, total
+from upsanddowns.treating import state_of, treat, treat_one, untreat
+from upsanddowns.turning import (
+    EvenRule, is_even_handed, is_own_turn, may_turn, own_turns, turn_peak, turn_token, turned_filling,
+)
 from upsanddowns.twosteps import down_up, factor, fading, mirror_row, times, up_down
 from upsanddowns.unseen import OneTable, one_table
 from upsanddowns.walks import count, counts, lowered, raised, walk_back, walks_of
 from upsanddowns.webs import Web
 from upsanddowns.weights import is_balanced, ring_apart, weights
 from upsanddowns.words import heights, parted
+from upsanddowns.writings import column_room, fewest_columns, grown_by, most_columns, writing_many, writings
 
 from tests.helpers import all_tuples, any_webs
 
 WEB = Web([[[1, 2]], [[1, 0], [2, 1]]], downs=[[[2, 1]], [[1, 1], [0, 1]]])
 KEPT = Kept(Web.shapes(4), Numbers.steady(1, 1))
 RULE = Rule(KEPT)
+ONE = Numbers.steady(1, 1)
+FILLING = Filling("ud", 1, [(0, 1, "swap", 0)])
+WALK = [["u", 0, 1], ["u", 0, 1], ["d", 0, 0]]
+
+
+def told(treated):
+    return (treated.filling.entries, treated.walk, treated.place, treated.last_place)
 
 
 def tables(web):
@@ -92,6 +109,20 @@ CALLS = [
     (lambda shifts: (ShiftRule(KEPT, shifts).shifts, ShiftRule(KEPT, shifts).match(1, 0, 0)), [[[], [1], [2, 0], []]]),
     (lambda matches: (OwnRule(KEPT, matches).matches, OwnRule(KEPT, matches).match(1, 0, 0)), [[[1, 0, 0, [1, 0]]]]),
     (lambda peak, token: (RULE.token_of(2, 0, 0, peak), RULE.peak_of(2, 0, 0, token)), [[0, 0, 0], [0]]),
+    (lambda entries: (Filling("ud", 1, entries).entries, Filling("ud", 1, entries).marks()), [[[0, 1, "mark", 0]]]),
+    (lambda pair: (int(pair in FILLING),), [[0, 1]]),
+    (lambda place, walk: told(treat(RULE, place, "uud", walk)), [[1, 0], WALK]),
+    (lambda place, walk: state_of(RULE, place, "uud", walk), [[1, 0], WALK]),
+    (lambda place, walk: treat_one(RULE, state_of(RULE, place, "uud", walk), 1), [[1, 0], WALK]),
+    (lambda place, walk: untreat(RULE, place, FILLING, walk), [[1, 0], [["d", 0, 0], ["u", 0, 0]]]),
+    (lambda place, walk: grid(RULE, place, walk, 1), [[0, 0], [["u", 0, 0], ["d", 0, 0]]]),
+    (lambda token, peak: (turn_token(ONE, ONE, 2, token), turn_peak(peak)), [[0, 1, 0, 0], [0, 1, 2]]),
+    (lambda one, two, walk: lead(RULE, RULE, one, two, walk, 1), [[0, 0], [0, 0], [["u", 0, 0], ["d", 0, 0]]]),
+    (lambda place, walk: lead_word(RULE, place, "uud", walk, "uud"), [[1, 0], WALK]),
+    (lambda ups, downs: (int(next_fits(KEPT.cut(1), ups, downs)),), [[[1, 1]], [[2, 0]]]),
+    (lambda writing: tables(grown_by(KEPT.cut(2), writing).web), [[[1, 0], [0, 1], [1, 1]]]),
+    (lambda ups: (tuple(downs_of(KEPT.cut(1), ups, 0)), downs_many(KEPT.cut(1), ups)), [[[1, 2]]]),
+    (lambda ups, rows: tables(grown_with(KEPT.cut(1), ups, rows).web), [[[1, 2]], [[2, 0]]]),
 ]
 
 
@@ -139,6 +170,10 @@ class ConventionsTest(unittest.TestCase):
             sizes_beneath(KEPT.numbers, 2, KEPT.above(2)), sizes_by_totals(KEPT.numbers, 1, (1, 2), upward=False),
             pures_by_sizes(numbers, (1, 2)), tables(late_sum(numbers, (1, 2))), peaks(KEPT, 2, 0, 0),
             tokens(KEPT, 2, 0, 0), RULE.token_numbers(2, 0, 0), RULE.match(2, 0, 0),
+            EvenRule(KEPT, ONE).match(2, 1, 0), tuple(one.entries for one in fillings_of(ONE, "uudd", 1)),
+            check_filling(ONE, FILLING).left(), corner_ranks(FILLING), turned_filling(ONE, ONE, FILLING).entries,
+            need(KEPT), tables(reflected(KEPT).web), tables(reflected_to(KEPT, 5).web),
+            tuple(writings(KEPT.cut(3))),
         ]
         for at, one in enumerate(found):
             self.assertIsInstance(one, tuple, msg=at)
@@ -154,7 +189,11 @@ class ConventionsTest(unittest.TestCase):
                     determinant([]), rank_of([]), minor([[1]], [], []), determinant_by_sizes(KEPT, 1, -1),
                     multiplicity(KEPT, 1, 9), product_by_sizes(KEPT, 1, 0), pures(WEB, 1),
                     level_of(KEPT, 1, (1,)), closed_total(KEPT.numbers, [1], 0, "u"), norm(WEB, [[1]], 0, [1]),
-                    forbidden(Numbers([]), [2, 1]), rule_count(KEPT, 0)):
+                    forbidden(Numbers([]), [2, 1]), rule_count(KEPT, 0), filling_count(ONE, "ud", 1, 0),
+                    filling_count(ONE, "ud", 1, 5), FILLING.many_marks, len(FILLING), FILLING.meeting(0, 1),
+                    FILLING.rank_at(1, 1), corner_many(ONE, 0, 1, 1, 1, 0), corner_many(ONE, 0, 1, 1, 1, 1),
+                    own_turns(ONE, ONE, 0, 2), writing_many(KEPT), fewest_columns(KEPT), most_columns(KEPT),
+                    column_room(KEPT)):
             self.assertIs(type(one), int)
         for web in any_webs():
             for table in web.ups + web.downs:
@@ -164,7 +203,9 @@ class ConventionsTest(unittest.TestCase):
         for one in (WEB.is_even, WEB.is_simple, WEB.is_fresh(0, 0), is_balanced(WEB), KEPT.lively,
                     Numbers([]).is_plain, Numbers([]).is_positive, Numbers([]).lively_to(3), WEB == WEB,
                     judge(WEB, 0).allows(1, 1), has_strands(WEB, 0, 1, 1), alive(KEPT.numbers, 0, 0),
-                    alive(KEPT.numbers, 1, 0), is_image(KEPT, 1, 0, (1,)), is_blind(KEPT, 1, 0, (1,))):
+                    alive(KEPT.numbers, 1, 0), is_image(KEPT, 1, 0, (1,)), is_blind(KEPT, 1, 0, (1,)),
+                    (0, 1) in FILLING, FILLING == FILLING, may_turn(KEPT, 0, 1, 1), is_even_handed(RULE, ONE),
+                    is_own_turn(ONE, ONE, FILLING), may_end(KEPT), next_fits(KEPT.cut(0), [[1]])):
             self.assertIs(type(one), bool)
 
 
@@ -213,6 +254,16 @@ class SizesTest(unittest.TestCase):
         self.assertEqual(read_back(kept, 8, 3, seen_from(kept, 8, 3, reading)), (tuple(reading), 1))
         self.assertEqual(len(parts(kept, 11, list(range(sizes[11])))), 12)
         self.assertEqual(pures(kept.web, 11), sizes[11] - sizes[10])
+
+    def test_great_rules(self):
+        kept = Kept(Web([[[10] * 10], [[20]] * 10], downs=[[[10] * 10], [[5]] * 10]), Numbers([(1, 1000), (1, 0)]))
+        rule = ShiftRule(kept, [[999], [7, 11]])
+        walk = [("u", 9, 3), ("u", 19, 0), ("d", 4, 7), ("d", 2, 0)]
+        done = treat(rule, (0, 0), "uudd", walk)
+        self.assertEqual(untreat(rule, (0, 0), done.filling, done.walk), tuple(walk))
+        self.assertEqual(filling_count(Numbers.steady(1000, 1000), "uuuuuudddddd", 11, 0), 1000 ** 36)
+        self.assertEqual(len(list(fillings_of(Numbers.steady(0, 1), "uuuuuudddddd", 11))), 1)
+        self.assertEqual(reflected(Kept(Web.shapes(6), ONE.changed(6, (1, 3)))).sizes[7], 40)
 
     def test_great_grids(self):
         table = self.table(random.Random(7))

@@ -4,11 +4,15 @@ import unittest
 
 from upsanddowns.alike import apart_start
 from upsanddowns.closed import sizes_beneath
+from upsanddowns.corners import grid
+from upsanddowns.downsides import downs_of
 from upsanddowns.errors import NotKept
+from upsanddowns.fillings import fillings_of
 from upsanddowns.judging import above, below, judge
 from upsanddowns.kept import Kept
 from upsanddowns.levels import parts, pure_row
 from upsanddowns.living import forbidden, late_sum, pures_by_sizes
+from upsanddowns.needs import need, reflected_to
 from upsanddowns.normal import normal_row, told_count
 from upsanddowns.numbers import Numbers
 from upsanddowns.readback import back_row
@@ -21,6 +25,7 @@ from upsanddowns.unseen import OneTable
 from upsanddowns.walks import walks_of
 from upsanddowns.webs import Web
 from upsanddowns.weights import weights
+from upsanddowns.writings import writings
 
 
 class ExamplesTest(unittest.TestCase):
@@ -109,6 +114,33 @@ class ExamplesTest(unittest.TestCase):
     def test_rules(self):
         kept = Kept(Web.shapes(2), Numbers.steady(1, 1))
         self.assertEqual(Rule(kept).match(1, 0, 0), (((0, 0, 0), (0, 0, 0, 0)), ((1, 0, 0), (0,))))
+
+    def test_fillings(self):
+        found = list(fillings_of(Numbers.steady(1, 1), "uudd", 0))
+        self.assertEqual(
+            (found[0].entries, found[1].entries, len(found)),
+            (((0, 2, "mark", 0), (1, 2, "swap", 0), (1, 3, "mark", 0)), ((0, 3, "mark", 0), (1, 2, "mark", 0)), 2),
+        )
+
+    def test_corners(self):
+        kept = Kept(Web.shapes(2), Numbers.steady(1, 1))
+        walk = [("u", 0, 0), ("u", 0, 0), ("d", 0, 0), ("d", 0, 0)]
+        self.assertEqual(
+            grid(Rule(kept), (0, 0), walk, 2),
+            (((0, 0), (0, 0), (0, 0)), ((1, 0), (0, 0), (0, 0)), ((2, 0), (1, 0), (0, 0))),
+        )
+
+    def test_needs(self):
+        kept = Kept(Web.shapes(2), Numbers.steady(1, 1))
+        self.assertEqual((need(kept), reflected_to(kept, 5).web.sizes), (((2, 1), (1, 2)), (1, 1, 2, 3, 5, 8)))
+
+    def test_writings(self):
+        kept = Kept(Web([], sizes=[1]), Numbers([(1, 4)]))
+        self.assertEqual(list(writings(kept)), [((1,), (1,), (1,), (1,)), ((2,),)])
+
+    def test_downsides(self):
+        kept = Kept(Web([], sizes=[1]), Numbers([(1, 4)]))
+        self.assertEqual(list(downs_of(kept, [[1, 3]], 0)), [(1, 1), (4, 0)])
 
 
 if __name__ == "__main__":

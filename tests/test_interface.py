@@ -82,6 +82,37 @@ FUNCTIONS = {
         "late_sum(numbers, sizes)", "norm(web, weights, rank, reading)",
     ],
     "rules": ["peaks(kept, rank, x, other)", "tokens(kept, rank, x, other)", "rule_count(kept, rank)"],
+    "fillings": [
+        "check_filling(numbers, filling)", "fillings_of(numbers, word, rank, *, limit=2000)",
+        "filling_count(numbers, word, rank, many)",
+    ],
+    "treating": [
+        "treat(rule, place, word, walk, *, backwards=False)", "state_of(rule, place, word, walk)",
+        "treat_one(rule, state, at)", "untreat(rule, place, filling, walk)",
+    ],
+    "corners": [
+        "grid(rule, place, walk, steps)", "corner_ranks(filling)",
+        "corner_many(numbers, start, steps, ups, downs, high)",
+    ],
+    "turning": [
+        "turn_token(numbers, strands, rank, token)", "turn_peak(peak)", "may_turn(kept, rank, g, f)",
+        "is_even_handed(rule, strands)", "even_rule(kept, strands)", "turned_filling(numbers, strands, filling)",
+        "is_own_turn(numbers, strands, filling)", "own_turns(numbers, strands, start, steps)",
+    ],
+    "leading": [
+        "lead(rule, other_rule, place, other_place, walk, steps)", "lead_word(rule, place, word, walk, other)",
+    ],
+    "needs": [
+        "need(kept)", "may_end(kept)", "reflected(kept)", "reflected_to(kept, top)",
+        "next_fits(kept, ups, downs=None)",
+    ],
+    "writings": [
+        "writings(kept, *, limit=300)", "writing_many(kept, *, limit=300)", "grown_by(kept, writing)",
+        "fewest_columns(kept)", "most_columns(kept)", "column_room(kept)",
+    ],
+    "downsides": [
+        "downs_of(kept, ups, place, *, limit=300)", "downs_many(kept, ups)", "grown_with(kept, ups, rows)",
+    ],
 }
 
 CLASSES = {
@@ -116,13 +147,23 @@ CLASSES = {
     ],
     ("rules", "ShiftRule"): ["__init__(self, kept, shifts)", "token_numbers(self, rank, x, other)"],
     ("rules", "OwnRule"): ["__init__(self, kept, matches)", "token_numbers(self, rank, x, other)"],
+    ("fillings", "Filling"): [
+        "__init__(self, word, rank, entries)", "many_marks(self)", "marks(self)", "left(self)",
+        "meeting(self, g, j)", "rank_at(self, ups, downs)", "__contains__(self, pair)", "__len__(self)",
+        "__iter__(self)", "__eq__(self, other)",
+    ],
+    ("treating", "Treated"): [],
+    ("turning", "EvenRule"): ["__init__(self, kept, strands)", "token_numbers(self, rank, x, other)"],
 }
 
 PROPERTIES = {
     ("webs", "Web"): ["top", "is_even", "is_simple"],
     ("numbers", "Numbers"): ["is_positive", "is_plain"],
     ("kept", "Kept"): ["top", "lively"],
+    ("fillings", "Filling"): ["many_marks"],
 }
+
+GENERATORS = {"walks": "walks_of", "fillings": "fillings_of", "writings": "writings", "downsides": "downs_of"}
 
 
 def told(node):
@@ -155,9 +196,10 @@ class InterfaceTest(unittest.TestCase):
             for row in rows:
                 self.assertIsInstance(vars(owner)[row], property)
 
-    def test_generator(self):
-        walks = importlib.import_module("upsanddowns.walks")
-        self.assertTrue(inspect.isgeneratorfunction(walks.walks_of))
+    def test_generators(self):
+        for name, title in GENERATORS.items():
+            found = getattr(importlib.import_module(f"upsanddowns.{name}"), title)
+            self.assertTrue(inspect.isgeneratorfunction(found))
 
 
 if __name__ == "__main__":

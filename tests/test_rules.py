@@ -8,7 +8,7 @@ from upsanddowns.numbers import Numbers
 from upsanddowns.rules import OwnRule, Rule, ShiftRule, peaks, rule_count, tokens
 from upsanddowns.webs import Web
 
-from tests.helpers import Errors, all_kept, all_tuples, pairs_at, rule_kept
+from tests.helpers import Errors, all_kept, all_tuples, pairs_at, rule_kept, some_rules
 
 
 def slow_peaks(web, n, x, other):
@@ -26,20 +26,6 @@ def slow_tokens(kept, n, x, other):
         for down in range(web.downs[n - 1][z][x]) for up in range(web.ups[n - 1][z][other])
     )
     return labels + [(colour,) for colour in range(r) if x == other]
-
-
-def some_rules(kept, seed):
-    """Rules of each kind but the even one."""
-    dice = random.Random(seed)
-    shifts = [[dice.randint(0, 9) for _ in range(dice.randint(0, 3))] for _ in range(kept.top)]
-    matches = []
-    for n in range(kept.top):
-        for x, other in pairs_at(kept, n):
-            many = kept.above(n)[x][other]
-            if dice.random() < 0.6:
-                matches.append([n, x, other, dice.sample(range(many), many)])
-    dice.shuffle(matches)
-    return [Rule(kept), ShiftRule(kept, shifts), OwnRule(kept, matches)]
 
 
 class PeaksTest(Errors, unittest.TestCase):
