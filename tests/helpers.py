@@ -194,6 +194,7 @@ def small_kept():
         unbalanced_kept()[0],
         reflected(Kept(Web([[[1]]]), Numbers([(1, 1), (3, 0), (0, 2)])), 2),
         Kept(Web([[[1]], [[1]]], downs=[[[2]], [[2]]]), Numbers([(3, 2), (1, 0)])),
+        Kept(Web([[[2]], [[2]], [[1, 1]]], downs=[[[1]], [[2]], [[2, 0]]]), Numbers([(3, 2), (1, 2), (0, 2)])),
     ]
 
 

@@ -143,6 +143,7 @@ class FillingTest(Errors, unittest.TestCase):
             self.refused(BadFilling, {"at": 1}, Filling, "uudd", 0, [good, entry, 5])
         self.refused(BadFilling, {"at": 1}, Filling, "uudd", 0, [(1, 2, "swap", 0), (0, 3, "swap", 0)])
         self.refused(BadFilling, {"at": 0}, Filling, "du", 0, [(1, 0, "swap", 0)])
+        self.refused(BadFilling, {"at": 2}, Filling, "uudd", 0, [(0, 2, "swap", 0), (1, 2, "swap", 0), (0, 3, "swap", 0)])
 
     def test_calls_refused(self):
         filling = Filling("uudd", 1, [])
@@ -282,7 +283,12 @@ class ListTest(Errors, unittest.TestCase):
             self.refused(NotPositive, {"rank": 2}, call, "d" * 9, 9, 0)
             call("uud", 0, 99)
             call("", 2, 99)
-            self.refused(NotPositive, {"rank": 0}, lambda: list(fillings_of(Numbers.steady(1, -1), "", 10 ** 15, limit=0)))
+        below = Numbers([(1, -1)], tail=(1, -1))
+        self.refused(NotPositive, {"rank": 0}, lambda: list(fillings_of(below, "", 10 ** 15, limit=0)))
+        self.refused(NotPositive, {"rank": 0}, filling_count, below, "", 10 ** 15, 0)
+        late = Numbers([(1, -1), (1, 1)])
+        self.refused(NotPositive, {"rank": 0}, lambda: list(fillings_of(late, "u", 1)))
+        self.refused(NotPositive, {"rank": 0}, filling_count, late, "u", 1, 0)
 
     def test_errors_come_with_the_first_item(self):
         told = fillings_of(Numbers.steady(1, 1), "x", 0)

@@ -103,6 +103,8 @@ class StateTest(Errors, unittest.TestCase):
             self.refused(BadNumber, {"name": "at"}, treat_one, rule, state, at)
         treat_one(rule, state, 1)
         treat_one(rule, state, 3)
+        back = state_of(rule, (1, 0), "du", [("d", 0, 0), ("u", 0, 0)])
+        self.refused(BadNumber, {"name": "at"}, treat_one, rule, back, -1)
         self.refused(BadNumber, {"name": "at"}, treat_one, rule, state_of(rule, (1, 0), "d", [("d", 0, 0)]), 0)
         self.refused(BadNumber, {"name": "at"}, treat_one, rule, state_of(rule, (1, 0), "u", [("u", 0, 0)]), 0)
         self.refused(BadNumber, {"name": "at"}, treat_one, rule, state_of(rule, (1, 0), "", []), 0)

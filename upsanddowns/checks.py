@@ -1,7 +1,9 @@
 """The checks of arguments that many calls share. Each one raises the error of the first fault."""
 
 from upsanddowns.amounts import is_int
-from upsanddowns.errors import BadPlace, BadRank, BadReading, BadSize, NotEven, NotLively, NotPositive, Unseen
+from upsanddowns.errors import (
+    BadLot, BadNumber, BadPlace, BadRank, BadReading, BadSize, NotEven, NotLively, NotPositive, Unseen,
+)
 from upsanddowns.forms import is_count, is_int_row, is_row, is_row_of
 
 
@@ -52,6 +54,25 @@ def check_seen(sizes, rank):
     if rank >= len(sizes):
         raise Unseen(rank)
     return rank
+
+
+def check_up_to(name, one, most):
+    """The integer itself, if it is one from 0 to most."""
+    if not is_int(one) or not 0 <= one <= most:
+        raise BadNumber(name)
+    return one
+
+
+def check_unlike(row, many):
+    """A dict of the row's entries, if they are unlike integers from 0 to many - 1."""
+    if not is_row(row):
+        raise BadLot(-1)
+    told = {}
+    for at, one in enumerate(row):
+        if not is_int(one) or not 0 <= one < many or one in told:
+            raise BadLot(at)
+        told[one] = True
+    return told
 
 
 def check_sizes(sizes):

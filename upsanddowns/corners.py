@@ -1,8 +1,8 @@
 """Corners: where a walk up and down comes by when a part of its pairs is treated."""
 
-from upsanddowns.amounts import check_number, is_int, product_of
-from upsanddowns.checks import check_any_rank, check_place, check_seen
-from upsanddowns.errors import BadNumber, BadWalk, NotFresh
+from upsanddowns.amounts import check_number, product_of
+from upsanddowns.checks import check_any_rank, check_place, check_seen, check_up_to
+from upsanddowns.errors import BadWalk, NotFresh
 from upsanddowns.normal import normal_row
 from upsanddowns.treating import places_passed, told_walk
 
@@ -77,12 +77,6 @@ def corner_ranks(filling):
     return tuple([tuple([filling.rank_at(s, t) for t in range(downs + 1)]) for s in range(ups + 1)])
 
 
-def check_up_to(name, one, most):
-    """Raises BadNumber unless one is an integer from 0 to most."""
-    if not is_int(one) or not 0 <= one <= most:
-        raise BadNumber(name)
-
-
 def gains_between(numbers, start, low, high):
     """The product of the gains from the start by more than low and at most high steps."""
     return product_of([numbers.gain(start, steps) for steps in range(low + 1, high + 1)])
@@ -96,7 +90,8 @@ def corner_many(numbers, start, steps, ups, downs, high):
     check_up_to("downs", downs, steps)
     check_number("high", high, 0)
     across = high - ups + downs
-    if not 0 <= across <= min(steps - ups, downs) or high > min(ups, steps - downs):
+    # So high is neither above ups nor above the steps less the downs.
+    if not 0 <= across <= min(steps - ups, downs):
         return 0
     row = normal_row(numbers, "u" * (steps - ups) + "d" * downs, start + ups)
     return (

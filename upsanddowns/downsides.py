@@ -2,8 +2,9 @@
 
 from math import gcd
 
-from upsanddowns.amounts import check_number, is_int
-from upsanddowns.errors import BadPlace, BadTable, NoneSuch, TooMany
+from upsanddowns.amounts import check_number
+from upsanddowns.checks import check_place_at
+from upsanddowns.errors import BadTable, NoneSuch, TooMany
 from upsanddowns.forms import frozen, is_count_table, is_row
 from upsanddowns.needs import need, with_rank
 from upsanddowns.tables import columns_of, dot
@@ -91,8 +92,7 @@ def rows_listed(kept, ups, place, limit):
 def downs_of(kept, ups, place, *, limit=300):
     """All rows of down strands from the next places to this place of the top, ascending."""
     table = check_ups(kept, ups)
-    if not is_int(place) or not 0 <= place < kept.sizes[kept.top]:
-        raise BadPlace(kept.top, place)
+    check_place_at(kept.sizes, kept.top, place)
     check_number("limit", limit, 0)
     for row in rows_listed(kept, table, place, limit):
         yield row

@@ -1,8 +1,8 @@
 """Fillings: which pairs of a u and a later d of a word are swapped or marked, and with which numbers."""
 
 from upsanddowns.amounts import check_number, is_int
-from upsanddowns.checks import check_any_rank, check_r_not_below
-from upsanddowns.errors import BadFilling, BadNumber, TooMany
+from upsanddowns.checks import check_any_rank, check_r_not_below, check_up_to
+from upsanddowns.errors import BadFilling, TooMany
 from upsanddowns.forms import is_count, is_row, is_row_of
 from upsanddowns.normal import normal_row
 from upsanddowns.words import check_word, climb
@@ -33,12 +33,6 @@ def told_entries(word, entries):
             raise BadFilling(at)
         found.append(tuple(entry))
     return tuple(found)
-
-
-def check_up_to_letters(name, one, word, letter):
-    """Raises BadNumber unless one is an integer from 0 to the number of these letters."""
-    if check_number(name, one, 0) > word.count(letter):
-        raise BadNumber(name)
 
 
 class Filling:
@@ -94,8 +88,8 @@ class Filling:
 
     def rank_at(self, ups, downs):
         """The rank of the corner behind so many u's and so many d's."""
-        check_up_to_letters("ups", ups, self.word, "u")
-        check_up_to_letters("downs", downs, self.word, "d")
+        check_up_to("ups", ups, self.word.count("u"))
+        check_up_to("downs", downs, self.word.count("d"))
         inside = [
             1 for g, j, _ in self.marks()
             if self.word[:g].count("u") >= ups and self.word[:j].count("d") < downs
@@ -130,15 +124,10 @@ def is_number_of(numbers, rank, kind, number):
 def check_entries(numbers, filling):
     """Raises BadFilling for the first entry that cannot stand in a filling."""
     marks = filling.marks()
-    marked = {}
+    # Of two marks with a letter in common one is not live: the one with the later d, or the farther u.
     for at, (g, j, kind, number) in enumerate(filling.entries):
-        if kind == "mark" and (g in marked or j in marked):
-            raise BadFilling(at)
         if not is_live(marks, g, j) or not is_number_of(numbers, filling.meeting(g, j), kind, number):
             raise BadFilling(at)
-        if kind == "mark":
-            marked[g] = True
-            marked[j] = True
 
 
 def check_filling(numbers, filling):

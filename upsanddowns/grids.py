@@ -2,9 +2,10 @@
 
 from math import gcd
 
-from upsanddowns.amounts import is_int, plain_by
+from upsanddowns.amounts import plain_by
+from upsanddowns.checks import check_unlike
 from upsanddowns.errors import BadLot, BadReading, BadTable
-from upsanddowns.forms import is_int_row, is_int_table, is_row, is_square_table
+from upsanddowns.forms import is_int_row, is_int_table, is_square_table
 
 
 def width_of(table):
@@ -142,22 +143,11 @@ def solve(table, target):
     return solution_of(table, target)
 
 
-def check_numbers_of(row, many):
-    """Raises BadLot unless the row holds unlike integers from 0 to many - 1."""
-    if not is_row(row):
-        raise BadLot(-1)
-    told = {}
-    for at, one in enumerate(row):
-        if not is_int(one) or not 0 <= one < many or one in told:
-            raise BadLot(at)
-        told[one] = True
-
-
 def minor(table, rows, columns):
     """The determinant of the entries at these rows and columns, taken in this order."""
     check_table(table)
-    check_numbers_of(rows, len(table))
-    check_numbers_of(columns, width_of(table))
+    check_unlike(rows, len(table))
+    check_unlike(columns, width_of(table))
     if len(rows) != len(columns):
         raise BadLot(-1)
     return determinant_of([[table[row][column] for column in columns] for row in rows])

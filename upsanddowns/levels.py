@@ -1,8 +1,7 @@
 """Levels: pure readings, and the parts of which each reading is the sum."""
 
-from upsanddowns.amounts import is_int, plain_by
-from upsanddowns.checks import check_any_rank, check_lively, check_rank, check_reading
-from upsanddowns.errors import BadNumber
+from upsanddowns.amounts import plain_by
+from upsanddowns.checks import check_any_rank, check_lively, check_rank, check_reading, check_up_to
 from upsanddowns.grids import nulls, rank_of
 from upsanddowns.tables import unit_table
 from upsanddowns.walks import moved
@@ -103,8 +102,7 @@ def core(kept, rank, reading, level):
     """The pure reading of the rank level that, raised to the rank, is the part of this level."""
     check_rank(kept.sizes, rank)
     row = check_reading(kept.sizes, rank, reading)
-    if not is_int(level) or not 0 <= level <= rank:
-        raise BadNumber("level")
+    check_up_to("level", level, rank)
     check_lively(kept.numbers, rank)
     found, den = core_of(kept, rank, row, level)
     return plain_by(found, den)

@@ -1,28 +1,18 @@
 """Ranked webs: places in ranks, with up strands and down strands between neighbouring ranks."""
 
-from upsanddowns.amounts import check_number, is_int
-from upsanddowns.checks import check_place_at, check_rank
-from upsanddowns.errors import BadNumber, BadNumbers, BadSize, BadTable
+from upsanddowns.amounts import check_number
+from upsanddowns.checks import check_place_at, check_rank, check_sizes, check_up_to
+from upsanddowns.errors import BadNumbers, BadSize, BadTable
 from upsanddowns.families import shape_tables, sizes_from, space_tables, subset_tables, tree_tables, word_tables
 from upsanddowns.forms import frozen, is_count, is_count_table, is_row, is_row_of
 from upsanddowns.joining import beside_sizes, beside_tables, product_sizes, product_tables
-
-
-def check_up_to(name, one, most):
-    """The integer itself, if it is one from 0 to most."""
-    if not is_int(one) or not 0 <= one <= most:
-        raise BadNumber(name)
-    return one
 
 
 def told_sizes(sizes, many):
     """The sizes of so many ranks as a tuple, where they are passed in."""
     if not is_row_of(sizes, many):
         raise BadSize(-1)
-    for rank, size in enumerate(sizes):
-        if not is_count(size):
-            raise BadSize(rank)
-    return tuple(sizes)
+    return check_sizes(sizes)
 
 
 def read_sizes(ups):

@@ -1,9 +1,7 @@
 """Words of the letters u and d: their rise, their heights, and the words made of their letters."""
 
-from upsanddowns.amounts import is_int
-from upsanddowns.checks import check_any_rank
-from upsanddowns.errors import BadLot, BadWord
-from upsanddowns.forms import is_row
+from upsanddowns.checks import check_any_rank, check_unlike
+from upsanddowns.errors import BadWord
 
 
 def check_word(word):
@@ -49,22 +47,10 @@ def turned(word):
     return "".join(["d" if letter == "u" else "u" for letter in word[::-1]])
 
 
-def check_chosen(word, chosen):
-    """The chosen letters' places as a dict, if each of them is a place of the word told once."""
-    if not is_row(chosen):
-        raise BadLot(-1)
-    told = {}
-    for at, one in enumerate(chosen):
-        if not is_int(one) or not 0 <= one < len(word) or one in told:
-            raise BadLot(at)
-        told[one] = True
-    return told
-
-
 def parted(word, chosen):
     """The chosen letters and the other letters, both in the order of the word."""
     check_word(word)
-    told = check_chosen(word, chosen)
+    told = check_unlike(chosen, len(word))
     first = "".join([letter for at, letter in enumerate(word) if at in told])
     second = "".join([letter for at, letter in enumerate(word) if at not in told])
     return first, second

@@ -80,9 +80,17 @@ def states_behind(state):
     return [later for later in found if has_hope(later)]
 
 
-def columns_in(groups):
-    """The columns of the groups, one by one."""
-    return tuple([entries for entries, many in groups for _ in range(many)])
+def order_of(table):
+    """The places, those with the least entries on the diagonal first."""
+    # They leave the fewest choices, and so the later places meet columns of which much is told.
+    return [place for _, place in sorted([(row[at], at) for at, row in enumerate(table)])]
+
+
+def columns_in(groups, order):
+    """The columns of the groups, descending; the groups are told in this order of the places."""
+    spots = [order.index(place) for place in range(len(order))]
+    columns = [tuple([entries[spot] for spot in spots]) for entries, many in groups for _ in range(many)]
+    return tuple(sorted(columns, reverse=True))
 
 
 def writings_to(table, limit):
@@ -91,16 +99,18 @@ def writings_to(table, limit):
         return [()]
     if any([entry < 0 for entry in entries_of(table)]):
         return []
+    order = order_of(table)
+    arranged = [[table[one][two] for two in order] for one in order]
     found = []
-    stack = [state_at(table, 0, ())]
+    stack = [state_at(arranged, 0, ())]
     while len(stack) > 0 and len(found) <= limit:
         state = stack.pop()
         if len(state[2]) > 0:
             stack.extend(states_behind(state))
         elif state[0] + 1 < len(table):
-            stack.append(state_at(table, state[0] + 1, state[1]))
+            stack.append(state_at(arranged, state[0] + 1, state[1]))
         else:
-            found.append(columns_in(state[1]))
+            found.append(columns_in(state[1], order))
     return found
 
 
