@@ -107,8 +107,10 @@ class FillingTest(Errors, unittest.TestCase):
                     filling = Filling(word, 4, [pair + ("mark", 0) for pair in marks])
                     for g in range(len(word)):
                         for j in range(len(word)):
-                            if word[g] == "u" and word[j] == "d":
+                            if (g, j) in pairs:
                                 self.assertEqual(filling.meeting(g, j), slow_meeting(word, 4, marks, g, j))
+                            else:
+                                self.refused(BadFilling, {"at": -1}, filling.meeting, g, j)
 
     def test_corners(self):
         for word in words_to(5):
@@ -152,7 +154,10 @@ class FillingTest(Errors, unittest.TestCase):
         for wrong in (-1, 3, True, None):
             self.refused(BadNumber, {"name": "ups"}, filling.rank_at, wrong, -1)
             self.refused(BadNumber, {"name": "downs"}, filling.rank_at, 2, wrong)
-        self.assertEqual(Filling("du", 1, []).meeting(1, 0), 1)
+        self.refused(BadFilling, {"at": -1}, Filling("du", 1, []).meeting, 1, 0)
+        self.refused(BadFilling, {"at": -1}, Filling("uddu", 3, []).meeting, 3, 1)
+        self.refused(BadFilling, {"at": -1}, Filling("udud", 0, [(0, 1, "mark", 0)]).meeting, 2, 1)
+        self.assertEqual(Filling("dud", 1, []).meeting(1, 2), 0)
 
 
 class CheckTest(Errors, unittest.TestCase):

@@ -13,14 +13,17 @@ def is_letter_at(word, at, letter):
     return is_int(at) and 0 <= at < len(word) and word[at] == letter
 
 
+def is_pair(word, g, j):
+    """True for the numbers of a u and of a later d of the word."""
+    return is_letter_at(word, g, "u") and is_letter_at(word, j, "d") and g < j
+
+
 def is_entry(word, entry):
     """True for (g, j, kind, number) of a u and a later d of the word."""
     if not is_row_of(entry, 4):
         return False
     g, j, kind, number = entry
-    if not is_letter_at(word, g, "u") or not is_letter_at(word, j, "d") or g > j:
-        return False
-    return kind in ("swap", "mark") and is_count(number)
+    return is_pair(word, g, j) and kind in ("swap", "mark") and is_count(number)
 
 
 def told_entries(word, entries):
@@ -80,8 +83,8 @@ class Filling:
         return (rest.count("d"), rest.count("u"))
 
     def meeting(self, g, j):
-        """The meeting rank of the u number g and the d number j."""
-        if not is_letter_at(self.word, g, "u") or not is_letter_at(self.word, j, "d"):
+        """The meeting rank of the u number g and the later d number j."""
+        if not is_pair(self.word, g, j):
             raise BadFilling(-1)
         between = len([mark for mark in self.marks() if mark[0] > g and mark[1] < j])
         return self.rank + self.word[:g].count("u") - self.word[:j].count("d") + between
