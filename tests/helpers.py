@@ -2,9 +2,11 @@
 
 import random
 from fractions import Fraction
+from itertools import combinations
 from itertools import product as all_of
 
 from upsanddowns.errors import BadForm, RanksError, UnmetNeed
+from upsanddowns.growth import Growth
 from upsanddowns.joins import thick
 from upsanddowns.kept import Kept
 from upsanddowns.makers import chain
@@ -328,6 +330,50 @@ def table_of(web, rank, word):
     return tuple(tuple(row) for row in table)
 
 
+def sided(web, side):
+    """The web whose up-ways are those of the side."""
+    return web if side == "ups" else ~web
+
+
+SIDES = ("ups", "downs")
+
+
+def slow_ways(web, place, steps, side="ups"):
+    """All up-ways of so many steps of the side, each a tuple of steps (strand, place)."""
+    return [
+        tuple((strand, number) for _, strand, number in walk)
+        for walk in slow_walks(sided(web, side), place, "u" * steps)
+    ]
+
+
+def passed(rank, start, way):
+    """The places of a way from (rank, start), both ends included."""
+    return [(rank, start)] + [(rank + at + 1, step[1]) for at, step in enumerate(way)]
+
+
+def higher_places(web, place, side="ups"):
+    """All places to which up-ways of at least one step lead."""
+    found, here = set(), {place}
+    for rank in range(place[0], web.top):
+        table = sided(web, side).ups[rank]
+        here = {(rank + 1, y) for _, x in here for y in range(web[rank + 1]) if table[x][y]}
+        found |= here
+    return found
+
+
+def lots_of(size, most):
+    """All lots of at most so many of the numbers below size, ascending."""
+    return [lot for many in range(min(size, most) + 1) for lot in combinations(range(size), many)]
+
+
+def told_otherwise(lot, seed):
+    """The lot in another order, with some places told twice."""
+    dice = random.Random(seed)
+    found = list(lot) + [one for one in lot if dice.random() < 0.5]
+    dice.shuffle(found)
+    return found
+
+
 def mult(one, other):
     width = len(other[0]) if other else 0
     return tuple(tuple(sum(a * row[z] for a, row in zip(line, other)) for z in range(width)) for line in one)
@@ -363,3 +409,36 @@ class Errors:
         self.assertEqual(vars(caught.exception), told)
         self.assertTrue(isinstance(caught.exception, (BadForm, UnmetNeed)))
         return caught.exception
+
+
+def origins_of(kept):
+    """All places from which growth is told."""
+    return [
+        (n, x) for n, x in places_of(kept.web)
+        if kept.web.is_fresh(n, x) and all(kept.numbers.gain(n, k) >= 1 for k in range(1, kept.top - n + 1))
+    ]
+
+
+def growing_kept():
+    """Kept webs with origins at several ranks, and with places from which no way leads back to an origin."""
+    one, more = Numbers.steady(1, 1), Numbers([(2, 1), (1, 2), (2, 1), (1, 3)])
+    late = Web.shapes(4) + chain(one, 1, 4) + chain(one, 2, 4)
+    return all_kept() + [
+        Kept(renumbered(late, 5), one),
+        Kept(renumbered(chain(more, 0, 4) + chain(more, 1, 4) + chain(more, 1, 4) + chain(more, 3, 4), 6), more),
+        reflected(Kept(Web([[[0, 1]]], sizes=[1, 2]), Numbers([(0, 1), (1, 1), (0, 2)])), 2),
+    ]
+
+
+def growths_of(kepts):
+    """Growth from each origin of each of these kept webs, two of each rank at most."""
+    found = []
+    for kept in kepts:
+        for n in range(kept.top + 1):
+            found += [Growth(kept, place) for place in origins_of(kept) if place[0] == n][:2]
+    return found
+
+
+def value(share):
+    """A Share as a Fraction."""
+    return Fraction(share.part, share.whole)

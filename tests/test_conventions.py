@@ -9,25 +9,36 @@ from upsanddowns.amounts import plain, product_of
 from upsanddowns.closed import closed_total, sizes_beneath, sizes_by_totals
 from upsanddowns.corners import corner_many, corner_ranks, grid
 from upsanddowns.downsides import downs_many, downs_of, grown_with
+from upsanddowns.ends import ends_at, is_one_to_one, layer_bound, level_bound, reaches_all, turning_rank
 from upsanddowns.fillings import Filling, check_filling, filling_count, fillings_of
+from upsanddowns.futures import agree_on, first_parting, floor_of_size, futures_many, size_ends, two_futures
+from upsanddowns.gates import gate, is_gate, reached, ways_apart
 from upsanddowns.grids import determinant, minor, nulls, rank_of, solve
+from upsanddowns.growth import Growth
 from upsanddowns.joins import beside, pair_of, place_of, product, raised_by, thick
 from upsanddowns.judging import above, below, breach, judge, read_numbers
 from upsanddowns.kept import Kept
 from upsanddowns.leading import lead, lead_word
 from upsanddowns.levels import core, level_of, parts, pure_basis, pure_part, pure_row, pures
 from upsanddowns.living import alive, forbidden, late_sum, norm, pures_by_sizes
+from upsanddowns.lotsapart import (
+    comes_before, greatest_apart, is_apart, is_layered, most_layered, parting_rows, parting_ways,
+)
 from upsanddowns.makers import chain
+from upsanddowns.matches import match_down, match_size, match_up
+from upsanddowns.mixtures import coin, product_growth, split_shares
 from upsanddowns.needs import may_end, need, next_fits, reflected, reflected_to
 from upsanddowns.normal import joined, normal_row, normal_terms, told_count, told_counts
 from upsanddowns.numbers import Numbers
 from upsanddowns.own import product_pair, thick_numbers, told_apart
 from upsanddowns.readback import back_row, is_blind, is_image, read_back, seen_from
 from upsanddowns.rules import OwnRule, Rule, ShiftRule, peaks, rule_count, tokens
+from upsanddowns.shares import Share, total_of
 from upsanddowns.sizes import determinant_by_sizes, multiplicity, product_by_sizes, root_row, size_steps
 from upsanddowns.strands import (
     down_ways, has_strands, single_ways, spread_row, spread_word, strand_numbers, up_ways,
 )
+from upsanddowns.systems import odd_systems, sign_of, signed_sum, square_sum, systems_of, ways_table
 from upsanddowns.texts import web_from, web_text
 from upsanddowns.totals import all_words, by_formula, picks, total
 from upsanddowns.treating import state_of, treat, treat_one, untreat
@@ -49,6 +60,7 @@ KEPT = Kept(Web.shapes(4), Numbers.steady(1, 1))
 RULE = Rule(KEPT)
 ONE = Numbers.steady(1, 1)
 FILLING = Filling("ud", 1, [(0, 1, "swap", 0)])
+GROWTH = Growth(KEPT, (0, 0))
 WALK = [["u", 0, 1], ["u", 0, 1], ["d", 0, 0]]
 
 
@@ -123,6 +135,23 @@ CALLS = [
     (lambda writing: tables(grown_by(KEPT.cut(2), writing).web), [[[1, 0], [0, 1], [1, 1]]]),
     (lambda ups: (tuple(downs_of(KEPT.cut(1), ups, 0)), downs_many(KEPT.cut(1), ups)), [[[1, 2]]]),
     (lambda ups, rows: tables(grown_with(KEPT.cut(1), ups, rows).web), [[[1, 2]], [[2, 0]]]),
+    (lambda words: (int(agree_on(KEPT, KEPT, 2, words)),), [["ud", "u"]]),
+    (lambda lot: tuple(systems_of(KEPT.web, 2, lot, 1)), [[1, 0, 1]]),
+    (lambda lot, ends: (signed_sum(KEPT.web, 2, lot, 1, ends),), [[1, 0], [2, 0, 2]]),
+    (lambda lot: (square_sum(KEPT, 2, lot, 3),), [[1, 0]]),
+    (lambda lot: (ways_apart(KEPT.web, 2, lot, 2), gate(KEPT.web, 2, lot, 2)), [[1, 0, 1]]),
+    (lambda lot: reached(KEPT.web, 2, lot, 2), [[1, 1]]),
+    (lambda lot, places: (int(is_gate(KEPT.web, 2, lot, 1, places)),), [[1, 0], [[3, 0], [3, 1], [3, 1]]]),
+    (lambda one, two: (int(comes_before(KEPT.web, one, two)),), [[1, 0], [3, 1]]),
+    (lambda lot: (int(is_apart(KEPT.web, lot)), int(is_layered(KEPT.web, lot, 2))), [[[2, 1], [1, 0], [2, 1]]]),
+    (lambda rows: (ends_at(KEPT, rows, 2), level_bound(KEPT, rows, 2)), [[[2], [2], [2, 2], [2] * 3, [2] * 5]]),
+    (lambda row: (str(total_of(row)),), [[1, 2, 5]]),
+    (lambda place: (Growth(KEPT, place).place, str(GROWTH(place))), [[0, 0]]),
+    (lambda place: (GROWTH.ahead(place), GROWTH.back(place), str(GROWTH.share(place))), [[3, 1]]),
+    (lambda place: tuple(map(str, GROWTH.step_up(place) + GROWTH.step_down(place))), [[3, 1]]),
+    (lambda place, other: (str(GROWTH.chance(place, "uud", other)),), [[2, 1], [3, 1]]),
+    (lambda place: tuple(map(str, GROWTH.chances(place, "uud"))), [[2, 1]]),
+    (lambda row: GROWTH.drawn_way(row), [[5, 7, 1, 2]]),
 ]
 
 
@@ -174,7 +203,13 @@ class ConventionsTest(unittest.TestCase):
             check_filling(ONE, FILLING).left(), corner_ranks(FILLING), turned_filling(ONE, ONE, FILLING).entries,
             need(KEPT), tables(reflected(KEPT).web), tables(reflected_to(KEPT, 5).web),
             tuple(writings(KEPT.cut(3))),
+            size_ends(KEPT), ways_table(WEB, 0, 2), tuple(systems_of(WEB, 1, (0, 1), 1)),
+            ways_apart(WEB, 0, (0,), 2, side="downs"), gate(WEB, 0, (0,), 2), reached(WEB, 0, (0,), 2),
+            parting_rows(WEB), parting_ways(KEPT), greatest_apart(WEB), ends_at(KEPT, weights(KEPT.web), 3),
         ]
+        for one in (match_up(WEB, 1), match_down(WEB, 1), GROWTH.shares(2), GROWTH.step_up((2, 0)),
+                    GROWTH.step_down((2, 0)), GROWTH.chances((2, 0), "u"), split_shares(GROWTH, GROWTH, 2)):
+            self.assertIsInstance(one, tuple)
         for at, one in enumerate(found):
             self.assertIsInstance(one, tuple, msg=at)
             self.assertTrue(all_tuples(one), msg=at)
@@ -193,7 +228,12 @@ class ConventionsTest(unittest.TestCase):
                     filling_count(ONE, "ud", 1, 5), FILLING.many_marks, len(FILLING), FILLING.meeting(0, 1),
                     FILLING.rank_at(1, 1), corner_many(ONE, 0, 1, 1, 1, 0), corner_many(ONE, 0, 1, 1, 1, 1),
                     own_turns(ONE, ONE, 0, 2), writing_many(KEPT), fewest_columns(KEPT), most_columns(KEPT),
-                    column_room(KEPT)):
+                    column_room(KEPT), first_parting(KEPT, Kept(Web.words(3), ONE)), floor_of_size(ONE, ONE, 0, 3),
+                    futures_many(KEPT, 0), futures_many(KEPT.cut(2), 1), sign_of(()), signed_sum(WEB, 0, [0], 1, []),
+                    signed_sum(WEB, 0, [0], 1, [1]), square_sum(KEPT, 2, [], 2), match_size(WEB, 0),
+                    most_layered(KEPT, 0, 2), most_layered(KEPT, 1, 2), layer_bound(WEB, 0), layer_bound(WEB, 1),
+                    level_bound(KEPT, weights(KEPT.web), 1), turning_rank(WEB, 0), GROWTH.ahead((1, 0)),
+                    GROWTH.back((1, 0)), GROWTH.origin_rank, Share(0).part, Share(1).whole, coin(1, 1, 0, 0).part):
             self.assertIs(type(one), int)
         for web in any_webs():
             for table in web.ups + web.downs:
@@ -205,8 +245,16 @@ class ConventionsTest(unittest.TestCase):
                     judge(WEB, 0).allows(1, 1), has_strands(WEB, 0, 1, 1), alive(KEPT.numbers, 0, 0),
                     alive(KEPT.numbers, 1, 0), is_image(KEPT, 1, 0, (1,)), is_blind(KEPT, 1, 0, (1,)),
                     (0, 1) in FILLING, FILLING == FILLING, may_turn(KEPT, 0, 1, 1), is_even_handed(RULE, ONE),
-                    is_own_turn(ONE, ONE, FILLING), may_end(KEPT), next_fits(KEPT.cut(0), [[1]])):
+                    is_own_turn(ONE, ONE, FILLING), may_end(KEPT), next_fits(KEPT.cut(0), [[1]]),
+                    agree_on(KEPT, KEPT, 1, []), odd_systems(KEPT, 0, 0), odd_systems(KEPT, 2, 2),
+                    is_gate(WEB, 0, [0], 1, []), comes_before(WEB, (0, 0), (0, 0)), is_apart(WEB, []),
+                    is_layered(WEB, [(0, 0)], 0), is_one_to_one(WEB, 0), reaches_all(WEB, 0),
+                    Share(1) == 1, Share(1) == Share(2), Share(0).is_nought(), Share(1).at_least(0)):
             self.assertIs(type(one), bool)
+
+
+def range_list(many):
+    return list(range(many))
 
 
 class SizesTest(unittest.TestCase):
@@ -254,6 +302,25 @@ class SizesTest(unittest.TestCase):
         self.assertEqual(read_back(kept, 8, 3, seen_from(kept, 8, 3, reading)), (tuple(reading), 1))
         self.assertEqual(len(parts(kept, 11, list(range(sizes[11])))), 12)
         self.assertEqual(pures(kept.web, 11), sizes[11] - sizes[10])
+
+    def test_great_growth(self):
+        many = 10 ** 12
+        numbers = Numbers([(many - n, many - 3 * n) for n in range(12)])
+        sizes = [3, 8, 8, 20, 31, 31, 31, 40, 40, 40, 40, 40]
+        kept = Kept(late_sum(numbers, sizes), numbers)
+        growth = Growth(kept, (1, 5))
+        self.assertEqual(sum(one.part for one in growth.shares(11)), 1)
+        self.assertEqual(len(growth.chances((11, growth.shares(11).index(Share(1))), "dddddduuuuuu")), 40)
+        self.assertEqual(len(growth.drawn_way([many ** 9] * 10)), 11)
+        self.assertEqual(square_sum(kept, 11, list(range(40)), 6), product_by_sizes(kept, 11, 6))
+        self.assertEqual(level_bound(kept, weights(kept.web), 3), 120)
+        self.assertEqual(len(parting_ways(kept)), 40)
+        self.assertIs(odd_systems(Kept(Web.shapes(7), ONE), 7, 500), False)
+        dice = random.Random(8)
+        web = Web([self.table(dice) for _ in range(11)], downs=[self.table(dice) for _ in range(11)])
+        self.assertEqual(layer_bound(web, 10), 10 * 40)
+        self.assertNotEqual(signed_sum(web, 0, range_list(12), 11, range_list(12), side="downs"), 0)
+        self.assertEqual(len(gate(web, 0, range_list(40), 11)), 40)
 
     def test_great_rules(self):
         kept = Kept(Web([[[10] * 10], [[20]] * 10], downs=[[[10] * 10], [[5]] * 10]), Numbers([(1, 1000), (1, 0)]))

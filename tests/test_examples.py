@@ -6,19 +6,26 @@ from upsanddowns.alike import apart_start
 from upsanddowns.closed import sizes_beneath
 from upsanddowns.corners import grid
 from upsanddowns.downsides import downs_of
+from upsanddowns.ends import layer_bound, turning_rank
 from upsanddowns.errors import NotKept
 from upsanddowns.fillings import fillings_of
+from upsanddowns.gates import gate, is_gate, reached, ways_apart
+from upsanddowns.growth import Growth
 from upsanddowns.judging import above, below, judge
 from upsanddowns.kept import Kept
 from upsanddowns.levels import parts, pure_row
 from upsanddowns.living import forbidden, late_sum, pures_by_sizes
+from upsanddowns.lotsapart import is_layered
+from upsanddowns.mixtures import coin
 from upsanddowns.needs import need, reflected_to
 from upsanddowns.normal import normal_row, told_count
 from upsanddowns.numbers import Numbers
 from upsanddowns.readback import back_row
 from upsanddowns.rules import Rule
+from upsanddowns.shares import Share, total_of
 from upsanddowns.sizes import determinant_by_sizes
 from upsanddowns.strands import single_ways
+from upsanddowns.systems import odd_systems, signed_sum, square_sum, systems_of
 from upsanddowns.texts import web_text
 from upsanddowns.twosteps import mirror_row
 from upsanddowns.unseen import OneTable
@@ -141,6 +148,47 @@ class ExamplesTest(unittest.TestCase):
     def test_downsides(self):
         kept = Kept(Web([], sizes=[1]), Numbers([(1, 4)]))
         self.assertEqual(list(downs_of(kept, [[1, 3]], 0)), [(1, 1), (4, 0)])
+
+    def test_systems(self):
+        kept = Kept(Web.subsets(3), Numbers.falling(3))
+        found = list(systems_of(kept.web, 1, (0, 1, 2), 1))
+        self.assertEqual(
+            [found, signed_sum(kept.web, 1, (0, 1, 2), 1, [2, 1, 0]), square_sum(kept, 1, [0, 1, 2], 1),
+             odd_systems(kept, 1, 1)],
+            [[(((0, 0),), ((0, 2),), ((0, 1),)), (((0, 1),), ((0, 0),), ((0, 2),))], -2, 4, False],
+        )
+
+    def test_gates(self):
+        web = Web([[[1], [1]], [[1, 1]]])
+        self.assertEqual(
+            [len(ways_apart(web, 0, (0, 1), 2)), gate(web, 0, (0, 1), 2), reached(web, 0, [1], 2),
+             is_gate(web, 0, [0, 1], 2, [(2, 0)])],
+            [1, ((1, 0),), (0, 1), False],
+        )
+
+    def test_ends(self):
+        web = Web([[[1, 0]], [[0], [1]]], downs=[[[0, 0]], [[0], [0]]])
+        self.assertEqual(
+            [layer_bound(web, 1), layer_bound(web, 2), turning_rank(web, 2),
+             is_layered(web, [(0, 0), (1, 0), (1, 1), (2, 0)], 2)],
+            [2, 4, 1, True],
+        )
+
+    def test_shares(self):
+        self.assertEqual(
+            [str(Share(4, -6)), Share(4, 2) == 2, str(1 - Share(1, 3)), str(total_of([Share(1, 2), 1]).over(3)),
+             str(coin(1, 2, 2, 1))],
+            ["-2/3", True, "2/3", "1/2", "4/9"],
+        )
+
+    def test_growth(self):
+        growth = Growth(Kept(Web.shapes(4), Numbers.steady(1, 1)), (0, 0))
+        one, two, three = growth.shares(3)
+        self.assertEqual(
+            [str(one), str(two), str(three), growth.ahead((3, 1)), str(growth.chance((2, 0), "ud", (2, 1))),
+             growth.drawn_way([0, 1, 2, 3])],
+            ["1/6", "2/3", "1/6", 2, "1/3", ((0, 0), (1, 0), (2, 1), (3, 2), (4, 4))],
+        )
 
 
 if __name__ == "__main__":

@@ -113,6 +113,36 @@ FUNCTIONS = {
     "downsides": [
         "downs_of(kept, ups, place, *, limit=300)", "downs_many(kept, ups)", "grown_with(kept, ups, rows)",
     ],
+    "futures": [
+        "two_futures(kept)", "first_parting(one, other)", "agree_on(one, other, rank, words)",
+        "floor_of_size(numbers, strands, start, steps)", "size_ends(kept)", "futures_many(kept, ranks, *, limit=300)",
+    ],
+    "systems": [
+        "ways_table(web, rank, steps, *, side='ups')", "systems_of(web, rank, lot, steps, *, side='ups', limit=500)",
+        "sign_of(system)", "signed_sum(web, rank, lot, steps, ends, *, side='ups')",
+        "square_sum(kept, rank, lot, steps)", "odd_systems(kept, rank, steps)",
+    ],
+    "matches": [
+        "match_up(web, rank, *, side='ups')", "match_down(web, rank, *, side='ups')",
+        "match_size(web, rank, *, side='ups')",
+    ],
+    "gates": [
+        "ways_apart(web, rank, lot, steps, *, side='ups')", "gate(web, rank, lot, steps, *, side='ups')",
+        "reached(web, rank, lot, steps, *, side='ups')", "is_gate(web, rank, lot, steps, places, *, side='ups')",
+    ],
+    "lotsapart": [
+        "comes_before(web, place, other, *, side='ups')", "is_apart(web, lot, *, side='ups')",
+        "is_layered(web, lot, many, *, side='ups')", "parting_rows(web, *, top=None, side='ups')",
+        "parting_ways(kept, *, top=None, side='ups')", "greatest_apart(web, *, top=None, side='ups')",
+        "most_layered(kept, many, top)",
+    ],
+    "ends": [
+        "is_one_to_one(web, rank, *, side='ups')", "reaches_all(web, rank, *, side='ups')",
+        "ends_at(kept, weights, rank)", "layer_bound(web, many, *, side='ups')", "level_bound(kept, weights, many)",
+        "turning_rank(web, top)",
+    ],
+    "shares": ["total_of(shares)"],
+    "mixtures": ["split_shares(one, other, steps)", "product_growth(one, other)", "coin(r, s, steps, first)"],
 }
 
 CLASSES = {
@@ -154,6 +184,18 @@ CLASSES = {
     ],
     ("treating", "Treated"): [],
     ("turning", "EvenRule"): ["__init__(self, kept, strands)", "token_numbers(self, rank, x, other)"],
+    ("shares", "Share"): [
+        "__init__(self, part, whole=1)", "of(part, whole)", "__add__(self, other)", "__radd__(self, other)",
+        "__sub__(self, other)", "__rsub__(self, other)", "__mul__(self, other)", "__rmul__(self, other)",
+        "__neg__(self)", "__eq__(self, other)", "__str__(self)", "over(self, other)", "at_least(self, other)",
+        "is_nought(self)",
+    ],
+    ("growth", "Growth"): [
+        "__init__(self, kept, place)", "__call__(self, place)", "origin_rank(self)", "ahead(self, place)",
+        "back(self, place)", "share(self, place)", "shares(self, rank)", "step_up(self, place)",
+        "step_down(self, place)", "chance(self, place, word, other)", "chances(self, place, word)",
+        "drawn_way(self, row)",
+    ],
 }
 
 PROPERTIES = {
@@ -161,9 +203,19 @@ PROPERTIES = {
     ("numbers", "Numbers"): ["is_positive", "is_plain"],
     ("kept", "Kept"): ["top", "lively"],
     ("fillings", "Filling"): ["many_marks"],
+    ("growth", "Growth"): ["origin_rank"],
 }
 
-GENERATORS = {"walks": "walks_of", "fillings": "fillings_of", "writings": "writings", "downsides": "downs_of"}
+SINGLE = {
+    ("webs", "Web"): (classmethod, ["shapes", "subsets", "spaces", "words", "tree"]),
+    ("numbers", "Numbers"): (classmethod, ["steady", "falling"]),
+    ("shares", "Share"): (staticmethod, ["of"]),
+}
+
+GENERATORS = {
+    "walks": "walks_of", "fillings": "fillings_of", "writings": "writings", "downsides": "downs_of",
+    "systems": "systems_of",
+}
 
 
 def told(node):
@@ -195,6 +247,12 @@ class InterfaceTest(unittest.TestCase):
             owner = getattr(importlib.import_module(f"upsanddowns.{name}"), title)
             for row in rows:
                 self.assertIsInstance(vars(owner)[row], property)
+
+    def test_methods_of_classes(self):
+        for (name, title), (kind, rows) in SINGLE.items():
+            owner = getattr(importlib.import_module(f"upsanddowns.{name}"), title)
+            for row in rows:
+                self.assertIsInstance(vars(owner)[row], kind)
 
     def test_generators(self):
         for name, title in GENERATORS.items():

@@ -2,9 +2,9 @@
 
 from upsanddowns.amounts import is_int
 from upsanddowns.errors import (
-    BadLot, BadNumber, BadPlace, BadRank, BadReading, BadSize, NotEven, NotLively, NotPositive, Unseen,
+    BadLot, BadNumber, BadPlace, BadRank, BadReading, BadSize, NotBalanced, NotEven, NotLively, NotPositive, Unseen,
 )
-from upsanddowns.forms import is_count, is_int_row, is_row, is_row_of
+from upsanddowns.forms import is_count, is_int_row, is_row, is_row_of, is_whole_row
 
 
 def check_rank(sizes, rank):
@@ -49,6 +49,43 @@ def check_reading(sizes, rank, reading):
     return tuple(reading)
 
 
+def check_lot(sizes, rank, lot):
+    """The lot as an ascending tuple without repetitions, if its items are places of the rank."""
+    if not is_row(lot):
+        raise BadLot(-1)
+    for at, one in enumerate(lot):
+        if not is_int(one) or not 0 <= one < sizes[rank]:
+            raise BadLot(at)
+    return tuple(sorted(set(lot)))
+
+
+def check_lot_of_pairs(sizes, lot):
+    """The lot as an ascending tuple without repetitions, if its items are places (rank, number)."""
+    if not is_row(lot):
+        raise BadLot(-1)
+    for at, one in enumerate(lot):
+        if not is_int_row(one, 2) or not 0 <= one[0] < len(sizes) or not 0 <= one[1] < sizes[one[0]]:
+            raise BadLot(at)
+    return tuple(sorted(set([(one[0], one[1]) for one in lot])))
+
+
+def check_top(sizes, top):
+    """The rank to which ranks are looked at; None stands for the top of the web."""
+    return len(sizes) - 1 if top is None else check_rank(sizes, top)
+
+
+def check_weights(sizes, rows):
+    """The rows, if they are one for each rank, each of as many integers above 0 as the rank has places."""
+    if not is_row(rows):
+        raise BadReading(-1)
+    for rank, size in enumerate(sizes):
+        if rank >= len(rows) or not is_whole_row(rows[rank], size):
+            raise BadReading(rank)
+    if len(rows) > len(sizes):
+        raise BadReading(len(sizes))
+    return rows
+
+
 def check_seen(sizes, rank):
     """The rank itself, if it is not above the top."""
     if rank >= len(sizes):
@@ -90,6 +127,14 @@ def check_even(web):
     for rank in range(web.top):
         if web.ups[rank] != web.downs[rank]:
             raise NotEven(rank)
+
+
+def check_balance(web, rows):
+    """Raises NotBalanced for the first rank between which and the next one these are no weights."""
+    for rank in range(web.top):
+        for weight, ups, downs in zip(rows[rank], web.ups[rank], web.downs[rank]):
+            if [up * one for up, one in zip(ups, rows[rank + 1])] != [down * weight for down in downs]:
+                raise NotBalanced(rank)
 
 
 def check_lively(numbers, rank):

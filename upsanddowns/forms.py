@@ -28,6 +28,11 @@ def is_count_row(one, length):
     return is_row_of(one, length) and all([is_count(entry) for entry in one])
 
 
+def is_whole_row(one, length):
+    """True for a list or tuple of so many integers above 0."""
+    return is_int_row(one, length) and all([entry >= 1 for entry in one])
+
+
 def is_count_table(one, rows, length):
     """True for so many rows, each of so many integers not below 0."""
     return is_row_of(one, rows) and all([is_count_row(row, length) for row in one])

@@ -42,7 +42,7 @@ def cleared(rows, at, column, lead):
 
 
 def eliminated(table, width):
-    """The rows with the first columns eliminated, the pivot columns, the last pivot, and the sign.
+    """The rows with the first columns eliminated, the pivot columns, and the last pivot.
 
     Row k has the last pivot in pivot column number k, and all other rows have 0 there; the rows
     behind them have 0 in all of the first columns.
@@ -50,18 +50,14 @@ def eliminated(table, width):
     rows = [list(row) for row in table]
     pivots = []
     lead = 1
-    sign = 1
     for column in range(width):
         at = len(pivots)
         found = pivot_row(rows, at, column)
         if found is not None:
-            if found > at:
-                rows = exchanged_rows(rows, at, found)
-                sign = -sign
-            rows = cleared(rows, at, column, lead)
+            rows = cleared(exchanged_rows(rows, at, found), at, column, lead)
             lead = rows[at][column]
             pivots.append(column)
-    return rows, pivots, lead, sign
+    return rows, pivots, lead
 
 
 def check_table(table):
@@ -70,10 +66,33 @@ def check_table(table):
         raise BadTable(0, "ups")
 
 
+def told_by_pivots(table, width):
+    """The number of pivots of a table with so many columns, the last pivot, and the sign.
+
+    Only what is still to be eliminated is kept, since neither a determinant nor a rank needs more.
+    """
+    rows = table
+    pivots = 0
+    lead = 1
+    sign = 1
+    for _ in range(width):
+        found = pivot_row(rows, 0, 0)
+        if found is None:
+            rows = [row[1:] for row in rows]
+        else:
+            sign = -sign if found > 0 else sign
+            rows = exchanged_rows(rows, 0, found)
+            pivot = rows[0]
+            rows = [row[1:] for row in cleared(rows, 0, 0, lead)[1:]]
+            lead = pivot[0]
+            pivots += 1
+    return pivots, lead, sign
+
+
 def determinant_of(table):
     """The determinant of a square table."""
-    _, pivots, lead, sign = eliminated(table, len(table))
-    return sign * lead if len(pivots) == len(table) else 0
+    pivots, lead, sign = told_by_pivots(table, len(table))
+    return sign * lead if pivots == len(table) else 0
 
 
 def determinant(table):
@@ -86,7 +105,7 @@ def determinant(table):
 def rank_of(table):
     """The number of linearly independent rows."""
     check_table(table)
-    return len(eliminated(table, width_of(table))[1])
+    return told_by_pivots(table, width_of(table))[0]
 
 
 def lowest_row(row):
@@ -114,7 +133,7 @@ def nulls(table):
     """A row for each free column that the table takes to 0, by ascending free columns."""
     check_table(table)
     width = width_of(table)
-    rows, pivots, lead, _ = eliminated(table, width)
+    rows, pivots, lead = eliminated(table, width)
     return tuple([
         null_of(rows, pivots, lead, width, free)
         for free in range(width)
@@ -126,7 +145,7 @@ def solution_of(table, target):
     """The scaled reading that the table takes to the target, with 0 at the free columns, or None."""
     width = width_of(table)
     wide = [list(row) + [entry] for row, entry in zip(table, target)]
-    rows, pivots, lead, _ = eliminated(wide, width)
+    rows, pivots, lead = eliminated(wide, width)
     if any([row[width] for row in rows[len(pivots):]]):
         return None
     found = [0] * width
