@@ -5,14 +5,16 @@ from fractions import Fraction
 from itertools import combinations
 from itertools import product as all_of
 
-from upsanddowns.errors import BadForm, RanksError, UnmetNeed
+from upsanddowns.errors import BadForm, RanksError, TooMany, UnmetNeed
 from upsanddowns.growth import Growth
 from upsanddowns.joins import thick
 from upsanddowns.kept import Kept
 from upsanddowns.makers import chain
 from upsanddowns.numbers import Numbers
 from upsanddowns.own import thick_numbers
+from upsanddowns.partings import Parting, coarsest
 from upsanddowns.rules import OwnRule, Rule, ShiftRule
+from upsanddowns.symmetries import orbits, symmetries_of
 from upsanddowns.webs import Web
 
 
@@ -442,3 +444,54 @@ def growths_of(kepts):
 def value(share):
     """A Share as a Fraction."""
     return Fraction(share.part, share.whole)
+
+
+def splits_of(size):
+    """All ways to split the numbers below size into lots."""
+    if size == 0:
+        return [[]]
+    found = []
+    for lots in splits_of(size - 1):
+        found.append(lots + [[size - 1]])
+        found += [lots[:at] + [lots[at] + [size - 1]] + lots[at + 1:] for at in range(len(lots))]
+    return found
+
+
+def random_split(dice, size):
+    """One way to split the numbers below size into lots, in any order."""
+    marks = [dice.randrange(size) for _ in range(size)]
+    lots = [[place for place in range(size) if marks[place] == mark] for mark in set(marks)]
+    for lot in lots:
+        dice.shuffle(lot)
+    dice.shuffle(lots)
+    return lots
+
+
+def slow_unfair(web, rows):
+    """The first places of one lot with unlike strands, told pair by pair."""
+    for n in range(web.top + 1):
+        for x in range(web[n]):
+            for y in range(x + 1, web[n]):
+                if not any(x in lot and y in lot for lot in rows[n]):
+                    continue
+                for lot in rows[n + 1] if n < web.top else []:
+                    if sum(web.ups[n][x][z] for z in lot) != sum(web.ups[n][y][z] for z in lot):
+                        return (n, x, y, "ups")
+                for lot in rows[n - 1] if n else []:
+                    if sum(web.downs[n - 1][z][x] for z in lot) != sum(web.downs[n - 1][z][y] for z in lot):
+                        return (n, x, y, "downs")
+    return None
+
+
+def fair_partings(web, seed=1):
+    """Some fair partings of the web, unlike ones, the one into single places first."""
+    dice = random.Random(seed)
+    found = [Parting.single(web.sizes), coarsest(web, Parting.flat(web.sizes))]
+    for _ in range(4):
+        found.append(coarsest(web, Parting([random_split(dice, size) for size in web.sizes])))
+    if sum(web.sizes) <= 40:
+        try:
+            found.append(orbits(symmetries_of(web, limit=800), web.sizes))
+        except TooMany:
+            pass
+    return [one for at, one in enumerate(found) if one not in found[:at]]

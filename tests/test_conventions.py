@@ -8,9 +8,12 @@ from upsanddowns.alike import alike_words
 from upsanddowns.amounts import plain, product_of
 from upsanddowns.closed import closed_total, sizes_beneath, sizes_by_totals
 from upsanddowns.corners import corner_many, corner_ranks, grid
+from upsanddowns.desks import Desk
 from upsanddowns.downsides import downs_many, downs_of, grown_with
 from upsanddowns.ends import ends_at, is_one_to_one, layer_bound, level_bound, reaches_all, turning_rank
 from upsanddowns.fillings import Filling, check_filling, filling_count, fillings_of
+from upsanddowns.flat import flat_rows, product_parting, reflected_parting
+from upsanddowns.folding import folded, folded_kept, folded_weights, lot_keeps, lot_sums
 from upsanddowns.futures import agree_on, first_parting, floor_of_size, futures_many, size_ends, two_futures
 from upsanddowns.gates import gate, is_gate, reached, ways_apart
 from upsanddowns.grids import determinant, minor, nulls, rank_of, solve
@@ -20,23 +23,32 @@ from upsanddowns.judging import above, below, breach, judge, read_numbers
 from upsanddowns.kept import Kept
 from upsanddowns.leading import lead, lead_word
 from upsanddowns.levels import core, level_of, parts, pure_basis, pure_part, pure_row, pures
+from upsanddowns.listings import line_of, listing, table_text, words_text
 from upsanddowns.living import alive, forbidden, late_sum, norm, pures_by_sizes
 from upsanddowns.lotsapart import (
     comes_before, greatest_apart, is_apart, is_layered, most_layered, parting_rows, parting_ways,
 )
 from upsanddowns.makers import chain
 from upsanddowns.matches import match_down, match_size, match_up
-from upsanddowns.mixtures import coin, product_growth, split_shares
+from upsanddowns.meeting import above_of, beneath_of, mass, meets, met_always, missing_way
+from upsanddowns.mixtures import coin, split_shares
 from upsanddowns.needs import may_end, need, next_fits, reflected, reflected_to
 from upsanddowns.normal import joined, normal_row, normal_terms, told_count, told_counts
 from upsanddowns.numbers import Numbers
 from upsanddowns.own import product_pair, thick_numbers, told_apart
+from upsanddowns.partings import Parting, coarsest, is_fair, unfair_pair
 from upsanddowns.readback import back_row, is_blind, is_image, read_back, seen_from
 from upsanddowns.rules import OwnRule, Rule, ShiftRule, peaks, rule_count, tokens
 from upsanddowns.shares import Share, total_of
 from upsanddowns.sizes import determinant_by_sizes, multiplicity, product_by_sizes, root_row, size_steps
+from upsanddowns.spreads import (
+    distance, likeness, mean, mean_back, ratio, slowest, two_levels, variance, variance_back,
+)
 from upsanddowns.strands import (
     down_ways, has_strands, single_ways, spread_row, spread_word, strand_numbers, up_ways,
+)
+from upsanddowns.symmetries import (
+    Symmetry, group_of, is_symmetry, orbit_sizes, orbits, symmetries_of, turned_by_fixed, turned_total,
 )
 from upsanddowns.systems import odd_systems, sign_of, signed_sum, square_sum, systems_of, ways_table
 from upsanddowns.texts import web_from, web_text
@@ -45,6 +57,7 @@ from upsanddowns.treating import state_of, treat, treat_one, untreat
 from upsanddowns.turning import (
     EvenRule, is_even_handed, is_own_turn, may_turn, own_turns, turn_peak, turn_token, turned_filling,
 )
+from upsanddowns.trials import tried
 from upsanddowns.twosteps import down_up, factor, fading, mirror_row, times, up_down
 from upsanddowns.unseen import OneTable, one_table
 from upsanddowns.walks import count, counts, lowered, raised, walk_back, walks_of
@@ -61,6 +74,10 @@ RULE = Rule(KEPT)
 ONE = Numbers.steady(1, 1)
 FILLING = Filling("ud", 1, [(0, 1, "swap", 0)])
 GROWTH = Growth(KEPT, (0, 0))
+CUBE = Kept(Web.subsets(3), Numbers.falling(3))
+TURN = Symmetry([[0], [0, 2, 1], [1, 0, 2], [0]])
+FLAT = Parting.flat(CUBE.sizes)
+DESK = Desk(KEPT.web, KEPT.numbers, chosen=2)
 WALK = [["u", 0, 1], ["u", 0, 1], ["d", 0, 0]]
 
 
@@ -152,6 +169,32 @@ CALLS = [
     (lambda place, other: (str(GROWTH.chance(place, "uud", other)),), [[2, 1], [3, 1]]),
     (lambda place: tuple(map(str, GROWTH.chances(place, "uud"))), [[2, 1]]),
     (lambda row: GROWTH.drawn_way(row), [[5, 7, 1, 2]]),
+    (lambda lot: (str(mass(GROWTH, lot)), str(meets(GROWTH, lot))), [[[2, 1], [3, 0], [2, 1]]]),
+    (lambda lot: (int(met_always(GROWTH, lot)),) + missing_way(GROWTH, lot), [[[2, 1], [3, 0]]]),
+    (lambda lot: (above_of(GROWTH, 2, lot), beneath_of(GROWTH, 2, lot)), [[1, 1]]),
+    (lambda row: (str(mean(GROWTH, 2, row)), str(variance(GROWTH, 2, row))), [[3, 5]]),
+    (lambda row: tuple(map(str, mean_back(GROWTH, 2, row, 1))) + (str(variance_back(GROWTH, 2, row, 1)),), [[3, 5]]),
+    (lambda row: (int(two_levels(GROWTH, 2, row)),), [[3, 5]]),
+    (lambda one, two: (str(distance(GROWTH, one, 1)), str(likeness(GROWTH, one, two, 1))), [[2, 0], [2, 1]]),
+    (lambda rows: Parting(rows).rows, [[[[0]], [[2, 0], [1]], []]]),
+    (lambda sizes: (Parting.single(sizes).rows, Parting.flat(sizes).rows), [[2, 0, 3]]),
+    (lambda row: lot_sums(FLAT, 1, row), [[2, 3, 4]]),
+    (lambda rows: folded_weights(CUBE.web, FLAT, rows), [[[2], [2, 2, 2], [2, 2, 2], [2]]]),
+    (lambda rows: (Symmetry(rows).rows, Symmetry(rows).fixed_row()), [[[0], [1, 0, 2]]]),
+    (lambda sizes: Symmetry.still(sizes).rows, [[2, 0]]),
+    (lambda ones: tuple(one.rows for one in group_of(ones)), [[TURN]]),
+    (lambda ones, sizes: orbits(ones, sizes).rows, [[TURN], [1, 3, 3, 1]]),
+    (lambda fixed: (turned_by_fixed(CUBE.numbers, fixed, 1, "ud"),), [[1, 1, 1]]),
+    (lambda rows: orbit_sizes(rows), [[[1, 2], [1, 0]]]),
+    (lambda ups: Desk(Web.shapes(1)).tell(ups) + Desk(Web.shapes(1)).tell(ups, ups), [[[1, 1]]]),
+    (lambda pair: Desk(Web.shapes(1)).renumber(1, pair), [[2, 3]]),
+    (lambda rows: Desk(Web.shapes(2)).merge(rows), [[[[0]], [[0]], [[1, 0]]]]),
+    (lambda place, other: (DESK.count(place, "ud", other),), [[2, 0], [2, 1]]),
+    (lambda asked, row: DESK.told(count=asked, parts=row), [[[2, 0], "ud", [2, 1]], [3, 4]]),
+    (lambda place: (str(DESK.shares(place)((2, 0))),), [[0, 0]]),
+    (lambda deeds: tried(DESK, deeds), [[["reflect", []], ["lay", [0]], ["undo", []]]]),
+    (lambda table: table_text(table), [[[1, -20], [300, 4]]]),
+    (lambda words: words_text(KEPT, 2, words), [["ud", "ddd"]]),
 ]
 
 
@@ -214,6 +257,27 @@ class ConventionsTest(unittest.TestCase):
             self.assertIsInstance(one, tuple, msg=at)
             self.assertTrue(all_tuples(one), msg=at)
 
+    def test_results_of_folds_and_desks_are_tuples(self):
+        desk = Desk(Web.shapes(2))
+        found = [
+            missing_way(GROWTH, ()), above_of(GROWTH, 1, (0,)), beneath_of(GROWTH, 2, (0,)), FLAT.rows, FLAT.lots(1),
+            FLAT.lot_sizes(), unfair_pair(CUBE.web, Parting([[[0]], [[0, 1], [2]], [[0, 1, 2]], [[0]]])),
+            coarsest(CUBE.web, FLAT).rows, tables(folded(CUBE.web, FLAT)), tables(folded_kept(CUBE, FLAT).web),
+            TURN.rows, TURN.fixed_row(), TURN.then(TURN).rows, TURN.undone().rows, flat_rows(CUBE.web),
+            product_parting(WEB, WEB, Parting.single(WEB.sizes), Parting.single(WEB.sizes)).rows,
+            reflected_parting(KEPT, Parting.flat(KEPT.sizes)).rows, desk.deeds(), desk.reflect(),
+            desk.merge([[[0]], [[0]], [[0, 1]], [[0, 1, 2]]]), desk.renumber(3, [1, 2]), desk.deeds(),
+            desk.news_of(0), desk.size_row, desk.sizes_ahead(0), desk.forget(1), desk.told(), desk.undo(),
+            desk.split(), listing(desk),
+        ]
+        for at, one in enumerate(found):
+            self.assertIsInstance(one, tuple, msg=at)
+            self.assertTrue(all_tuples(one), msg=at)
+        for one in (desk.sizes_ahead(2), desk.sizes_ahead(2)[1], group_of([TURN]), symmetries_of(CUBE.web),
+                    mean_back(GROWTH, 2, (1, 2), 1), two_futures(Kept(Web([], sizes=[1]), Numbers([(1, 4)])))):
+            self.assertIsInstance(one, tuple)
+        self.assertEqual(line_of(KEPT, 4), "rank 4: size 5, gain 4")
+
     def test_integers_are_no_bools(self):
         for one in (WEB.top, WEB[0], len(WEB), count(WEB, (0, 0), "", (0, 0)), count(WEB, (0, 0), "d", (0, 0)),
                     Numbers([]).gain(0, 1), Numbers([]).swaps(0, 0), told_count(KEPT, (0, 0), "", (0, 0)),
@@ -233,7 +297,12 @@ class ConventionsTest(unittest.TestCase):
                     signed_sum(WEB, 0, [0], 1, [1]), square_sum(KEPT, 2, [], 2), match_size(WEB, 0),
                     most_layered(KEPT, 0, 2), most_layered(KEPT, 1, 2), layer_bound(WEB, 0), layer_bound(WEB, 1),
                     level_bound(KEPT, weights(KEPT.web), 1), turning_rank(WEB, 0), GROWTH.ahead((1, 0)),
-                    GROWTH.back((1, 0)), GROWTH.origin_rank, Share(0).part, Share(1).whole, coin(1, 1, 0, 0).part):
+                    GROWTH.back((1, 0)), GROWTH.origin_rank, Share(0).part, Share(1).whole, coin(1, 1, 0, 0).part,
+                    slowest(KEPT, 2), len(FLAT), FLAT.lot_of(1, 0), TURN.image(1, 0), TURN.fixed(0), TURN.order(),
+                    turned_total(CUBE, TURN, 1, "u"), turned_total(CUBE, TURN, 1, "ud"),
+                    turned_by_fixed(CUBE.numbers, [1], 0, "d"), DESK.top, DESK.standing, DESK.chosen,
+                    DESK.count((0, 0), "d", (0, 0)), DESK.total("u"), DESK.total(""), DESK.gate_size(1, 1),
+                    DESK.apart(0), DESK.apart()):
             self.assertIs(type(one), int)
         for web in any_webs():
             for table in web.ups + web.downs:
@@ -249,7 +318,10 @@ class ConventionsTest(unittest.TestCase):
                     agree_on(KEPT, KEPT, 1, []), odd_systems(KEPT, 0, 0), odd_systems(KEPT, 2, 2),
                     is_gate(WEB, 0, [0], 1, []), comes_before(WEB, (0, 0), (0, 0)), is_apart(WEB, []),
                     is_layered(WEB, [(0, 0)], 0), is_one_to_one(WEB, 0), reaches_all(WEB, 0),
-                    Share(1) == 1, Share(1) == Share(2), Share(0).is_nought(), Share(1).at_least(0)):
+                    Share(1) == 1, Share(1) == Share(2), Share(0).is_nought(), Share(1).at_least(0),
+                    met_always(GROWTH, []), two_levels(GROWTH, 1, [1]), FLAT == FLAT, FLAT.within(FLAT),
+                    is_fair(CUBE.web, FLAT), lot_keeps(CUBE.web, FLAT, 0, 1, 1), TURN == TURN,
+                    is_symmetry(CUBE.web, TURN), is_symmetry(WEB, TURN), DESK.same_as(DESK), DESK.same_as(None)):
             self.assertIs(type(one), bool)
 
 
@@ -321,6 +393,43 @@ class SizesTest(unittest.TestCase):
         self.assertEqual(layer_bound(web, 10), 10 * 40)
         self.assertNotEqual(signed_sum(web, 0, range_list(12), 11, range_list(12), side="downs"), 0)
         self.assertEqual(len(gate(web, 0, range_list(40), 11)), 40)
+
+    def test_great_folds(self):
+        many = 10 ** 12
+        thin = [[many] * 40] * 40
+        kept = Kept(Web([[[many] * 40]] + [thin] * 10), Numbers(
+            [(1, 40 * many ** 2)] + [(40, 0)] + [(1, 0)] * 9
+        ))
+        flat = Parting.flat(kept.sizes)
+        self.assertEqual(flat_rows(kept.web)[0], (40 * many,) * 11)
+        fold = folded_kept(kept, flat)
+        self.assertEqual(fold.sizes, (1,) * 12)
+        self.assertEqual(coarsest(kept.web, Parting([[[0]]] + [[list(range(39)), [39]]] * 11)).lot_sizes()[11], 2)
+        wheel = Symmetry([[0]] + [[(x + 1) % 40 for x in range(40)]] * 11)
+        self.assertIs(is_symmetry(kept.web, wheel), True)
+        self.assertEqual(len(group_of([wheel])), 40)
+        self.assertEqual(orbits(group_of([wheel]), kept.sizes), flat)
+        self.assertEqual(turned_total(kept, wheel, 11, "uuuuuudddddd"), turned_by_fixed(
+            kept.numbers, wheel.fixed_row(), 11, "uuuuuudddddd"))
+        growth = Growth(kept, (0, 0))
+        self.assertEqual(str(ratio(growth, 9, 2, 1)), "0/1")
+        self.assertEqual(str(distance(growth, (5, 3), 6)), "1/1")
+        self.assertEqual(variance_back(growth, 5, list(range(40)), 6), 0)
+
+    def test_great_desks(self):
+        many = 10 ** 12
+        numbers = Numbers([(many - n, many - 3 * n) for n in range(12)])
+        desk = Desk(late_sum(numbers, [3, 8, 8, 20, 31, 31, 31, 40, 40, 40, 40, 40]), numbers)
+        for n in range(50):
+            desk.merge([[range_list(size)] for size in desk.size_row])
+            desk.renumber(11, (n, many - n))
+        self.assertEqual(desk.standing, 100)
+        self.assertEqual(desk.lots().sizes, (1, 2, 2, 3, 4, 4, 4, 5, 5, 5, 5, 5))
+        self.assertEqual(desk.apart(2), 80)
+        self.assertEqual(desk.gate_size(3, 11), 20)
+        self.assertEqual(len(listing(desk)), 15)
+        desk.undo(100)
+        self.assertEqual(desk.stored, numbers)
 
     def test_great_rules(self):
         kept = Kept(Web([[[10] * 10], [[20]] * 10], downs=[[[10] * 10], [[5]] * 10]), Numbers([(1, 1000), (1, 0)]))

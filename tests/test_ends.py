@@ -1,4 +1,3 @@
-import random
 import unittest
 
 from upsanddowns.ends import ends_at, is_one_to_one, layer_bound, level_bound, reaches_all, turning_rank
@@ -13,10 +12,9 @@ from upsanddowns.webs import Web
 from upsanddowns.weights import weights
 
 from tests.helpers import (
-    SIDES, Errors, all_kept, all_tuples, any_webs, falling_kept, places_of, random_web, sided, slow_rank, table_of,
-    unlike_kept,
+    SIDES, Errors, all_kept, all_tuples, any_webs, falling_kept, random_web, sided, slow_rank, table_of, unlike_kept,
 )
-from tests.test_lotsapart import longest, order_of, slow_most
+from tests.test_lotsapart import slow_most
 
 
 def balanced_kept():

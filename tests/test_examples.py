@@ -5,28 +5,37 @@ import unittest
 from upsanddowns.alike import apart_start
 from upsanddowns.closed import sizes_beneath
 from upsanddowns.corners import grid
+from upsanddowns.desks import Desk
 from upsanddowns.downsides import downs_of
 from upsanddowns.ends import layer_bound, turning_rank
 from upsanddowns.errors import NotKept
 from upsanddowns.fillings import fillings_of
+from upsanddowns.flat import flat_rows
+from upsanddowns.folding import folded
 from upsanddowns.gates import gate, is_gate, reached, ways_apart
 from upsanddowns.growth import Growth
 from upsanddowns.judging import above, below, judge
 from upsanddowns.kept import Kept
 from upsanddowns.levels import parts, pure_row
+from upsanddowns.listings import listing
 from upsanddowns.living import forbidden, late_sum, pures_by_sizes
 from upsanddowns.lotsapart import is_layered
+from upsanddowns.meeting import above_of, mass, met_always
 from upsanddowns.mixtures import coin
 from upsanddowns.needs import need, reflected_to
 from upsanddowns.normal import normal_row, told_count
 from upsanddowns.numbers import Numbers
+from upsanddowns.partings import Parting, coarsest, unfair_pair
 from upsanddowns.readback import back_row
 from upsanddowns.rules import Rule
 from upsanddowns.shares import Share, total_of
 from upsanddowns.sizes import determinant_by_sizes
+from upsanddowns.spreads import distance, ratio, slowest, two_levels, variance, variance_back
 from upsanddowns.strands import single_ways
+from upsanddowns.symmetries import Symmetry, orbits, turned_by_fixed, turned_total
 from upsanddowns.systems import odd_systems, signed_sum, square_sum, systems_of
 from upsanddowns.texts import web_text
+from upsanddowns.trials import tried
 from upsanddowns.twosteps import mirror_row
 from upsanddowns.unseen import OneTable
 from upsanddowns.walks import walks_of
@@ -189,6 +198,76 @@ class ExamplesTest(unittest.TestCase):
              growth.drawn_way([0, 1, 2, 3])],
             ["1/6", "2/3", "1/6", 2, "1/3", ((0, 0), (1, 0), (2, 1), (3, 2), (4, 4))],
         )
+
+    def test_meeting_and_spreads(self):
+        growth = Growth(Kept(Web.shapes(4), Numbers.steady(1, 1)), (0, 0))
+        met = [str(mass(growth, [(2, 1), (3, 0)])), met_always(growth, [(2, 1), (3, 0)]), above_of(growth, 2, [0])]
+        spread = [
+            str(variance(growth, 2, (1, 0))), str(variance_back(growth, 2, (1, 0), 1)), str(distance(growth, (2, 0), 1)),
+        ]
+        self.assertEqual(
+            [met, spread, slowest(growth.kept, 2), str(ratio(growth, 2, 1, 2)), two_levels(growth, 2, (1, 0))],
+            [["2/3", False, (0, 1)], ["1/4", "1/12", "4/3"], 2, "1/3", True],
+        )
+
+    def test_partings(self):
+        web = Web.subsets(3)
+        told = Parting([[[0]], [[0, 1], [2]], [[0, 1, 2]], [[0]]])
+        self.assertEqual(
+            [unfair_pair(web, told), coarsest(web, told).rows],
+            [(2, 0, 1, "downs"), (((0,),), ((0, 1), (2,)), ((0,), (1, 2)), ((0,),))],
+        )
+
+    def test_folding(self):
+        web = Web.subsets(3)
+        turn = Symmetry([[0], [0, 2, 1], [1, 0, 2], [0]])
+        fold = folded(web, orbits([turn], web.sizes))
+        self.assertEqual(
+            [fold.sizes, fold.ups[:2], fold.downs[:2]],
+            [(1, 2, 2, 1), (((1, 2),), ((2, 0), (1, 1))), (((1, 1),), ((1, 0), (1, 2)))],
+        )
+
+    def test_symmetries(self):
+        kept = Kept(Web.subsets(3), Numbers.falling(3))
+        turn = Symmetry([[0], [0, 2, 1], [1, 0, 2], [0]])
+        self.assertEqual(
+            [turn.fixed_row(), turned_total(kept, turn, 1, "ud"), turned_by_fixed(kept.numbers, [1, 1, 1, 1], 1, "ud")],
+            [(1, 1, 1, 1), 4, 4],
+        )
+
+    def test_flat(self):
+        self.assertEqual(flat_rows(Web.subsets(3)), ((3, 2, 1), (1, 2, 3)))
+
+    def test_desks(self):
+        desk = Desk(Web.shapes(2))
+        self.assertEqual(
+            [desk.reflect(), desk.size_row, desk.apart(2), desk.undo(), desk.sizes_ahead(2)],
+            [("rank 3 size 3", "keeps 1 1", "sizes ahead at least 3", "lots 3", "writings 1"), (1, 1, 2, 3), 5, (),
+             ((2, 4), (2, None))],
+        )
+
+    def test_trials(self):
+        desk = Desk(Web.shapes(1))
+        self.assertEqual(
+            [tried(desk, [("lay", [0]), ("end", []), ("split", [])]), desk.top, desk.standing],
+            [(("rank 2 size 2", "keeps 1 1", "sizes ahead at least 2", "lots 2", "writings 1"), ("refused", "NotKept")),
+             1, 0],
+        )
+
+    def test_news(self):
+        desk = Desk(Web.subsets(2), Numbers.falling(2))
+        self.assertEqual(
+            [desk.merge([[[0]], [[0, 1]], [[0]]]), desk.end()],
+            [(), ("rank 3 size 0", "keeps 1 -2", "lots 0", "writings 1", "ends")],
+        )
+
+    def test_listings(self):
+        desk = Desk(Web.subsets(2), Numbers.falling(2))
+        desk.merge([[[0]], [[0, 1]], [[0]]])
+        self.assertEqual(listing(desk), (
+            "web of 3 ranks, even", "rank 0: size 1, keeps 1 2, gain 0, up 2, down 2",
+            "rank 1: size 2, keeps 1 0, gain 2, up 2, down 2", "rank 2: size 1, gain 2", "lots 1 1 1", "deeds merge",
+        ))
 
 
 if __name__ == "__main__":

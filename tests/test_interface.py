@@ -143,6 +143,33 @@ FUNCTIONS = {
     ],
     "shares": ["total_of(shares)"],
     "mixtures": ["split_shares(one, other, steps)", "product_growth(one, other)", "coin(r, s, steps, first)"],
+    "meeting": [
+        "mass(growth, places)", "meets(growth, places, *, times=1)", "met_always(growth, places)",
+        "missing_way(growth, places)", "above_of(growth, rank, lot)", "beneath_of(growth, rank, lot)",
+    ],
+    "spreads": [
+        "mean(growth, rank, reading)", "variance(growth, rank, reading)", "mean_back(growth, rank, reading, steps)",
+        "variance_back(growth, rank, reading, steps)", "ratio(growth, rank, steps, level)", "slowest(kept, rank)",
+        "two_levels(growth, rank, reading)", "distance(growth, place, steps)",
+        "likeness(growth, place, other, steps)",
+    ],
+    "partings": ["fits(web, parting)", "unfair_pair(web, parting)", "is_fair(web, parting)", "coarsest(web, parting)"],
+    "folding": [
+        "folded(web, parting)", "folded_kept(kept, parting)", "lot_sums(parting, rank, reading)",
+        "folded_weights(web, parting, weights)", "lot_keeps(web, parting, rank, q, r)",
+    ],
+    "symmetries": [
+        "is_symmetry(web, symmetry)", "group_of(symmetries, *, limit=200)", "orbits(symmetries, sizes)",
+        "turned_total(kept, symmetry, rank, word)", "turned_by_fixed(numbers, fixed, rank, word)",
+        "orbit_sizes(fixed_rows)", "symmetries_of(web, *, limit=200)",
+    ],
+    "flat": [
+        "flat_rows(web)", "reflected_parting(kept, parting)", "product_parting(one, other, parting, second)",
+    ],
+    "trials": ["tried(desk, deeds)"],
+    "listings": [
+        "line_of(kept, rank)", "listing(desk)", "table_text(table)", "words_text(kept, rank, words)",
+    ],
 }
 
 CLASSES = {
@@ -196,6 +223,27 @@ CLASSES = {
         "step_down(self, place)", "chance(self, place, word, other)", "chances(self, place, word)",
         "drawn_way(self, row)",
     ],
+    ("partings", "Parting"): [
+        "__init__(self, rows)", "__len__(self)", "__eq__(self, other)", "single(cls, sizes)", "flat(cls, sizes)",
+        "lots(self, rank)", "lot_of(self, rank, place)", "lot_sizes(self)", "within(self, other)",
+        "joined(self, other)",
+    ],
+    ("symmetries", "Symmetry"): [
+        "__init__(self, rows)", "__eq__(self, other)", "still(cls, sizes)", "image(self, rank, place)",
+        "then(self, other)", "undone(self)", "fixed(self, rank)", "fixed_row(self)", "order(self)",
+    ],
+    ("desks", "Desk"): [
+        "__init__(self, web, numbers=None, *, chosen=0)", "held(self)", "stored(self)", "now(self)", "parting(self)",
+        "top(self)", "size_row(self)", "standing(self)", "chosen(self)", "chosen(self, value)", "choose(self, rank)",
+        "tell(self, ups, downs=None)", "reflect(self)", "lay(self, number)", "end(self)", "renumber(self, rank, pair)",
+        "merge(self, rows)", "split(self)", "undo(self, many=1)", "count(self, place, word, other)",
+        "total(self, word, rank=None)", "sizes_ahead(self, many)", "shares(self, place)", "lots(self)",
+        "gate_size(self, rank, other)", "apart(self, many=1)", "forget(self, rank)", "told(self, **more)",
+        "news_of(self, number)", "deeds(self)", "same_as(self, other)",
+    ],
+    ("trials", "Trial"): [
+        "__init__(self, desk)", "ended(self)", "__enter__(self)", "__exit__(self, kind, value, trace)",
+    ],
 }
 
 PROPERTIES = {
@@ -204,12 +252,16 @@ PROPERTIES = {
     ("kept", "Kept"): ["top", "lively"],
     ("fillings", "Filling"): ["many_marks"],
     ("growth", "Growth"): ["origin_rank"],
+    ("desks", "Desk"): ["held", "stored", "now", "parting", "top", "size_row", "standing", "chosen"],
+    ("trials", "Trial"): ["ended"],
 }
 
 SINGLE = {
     ("webs", "Web"): (classmethod, ["shapes", "subsets", "spaces", "words", "tree"]),
     ("numbers", "Numbers"): (classmethod, ["steady", "falling"]),
     ("shares", "Share"): (staticmethod, ["of"]),
+    ("partings", "Parting"): (classmethod, ["single", "flat"]),
+    ("symmetries", "Symmetry"): (classmethod, ["still"]),
 }
 
 GENERATORS = {

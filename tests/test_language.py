@@ -42,7 +42,7 @@ BARRED_WORDS = re.compile(
 # Values that are not iterated at once or that a generator expression would hide; the package does without.
 BARRED_NODES = (
     ast.GeneratorExp, ast.Set, ast.SetComp, ast.Lambda, ast.Global, ast.Nonlocal, ast.AsyncFunctionDef, ast.Match,
-    ast.NamedExpr, ast.With, ast.Div, ast.MatMult, ast.AnnAssign, ast.Delete, ast.TryStar,
+    ast.NamedExpr, ast.Div, ast.MatMult, ast.AnnAssign, ast.Delete, ast.TryStar,
 )
 
 
@@ -80,6 +80,11 @@ def docstrings_of(tree):
         if isinstance(node, (ast.Module, ast.ClassDef, ast.FunctionDef)) and ast.get_docstring(node) is not None:
             found.add(id(node.body[0].value))
     return found
+
+
+def decorators_of(node):
+    """The decorators of a function as written, the setter of a property without the property's name."""
+    return [ast.unparse(one).replace(f"{node.name}.", "") for one in node.decorator_list]
 
 
 def local_names(function):
@@ -232,9 +237,9 @@ class CodeTest(unittest.TestCase):
 
     def test_decorators(self):
         for where, node in self.each((ast.FunctionDef, ast.ClassDef)):
-            for one in node.decorator_list:
+            for one in decorators_of(node):
                 self.assertIsInstance(node, ast.FunctionDef, msg=where)
-                self.assertIn(one.id, ("property", "classmethod", "staticmethod"), msg=where)
+                self.assertIn(one, ("property", "setter", "classmethod", "staticmethod"), msg=where)
 
     def test_double_underscores(self):
         for where, node in self.each(ast.FunctionDef):
@@ -243,8 +248,12 @@ class CodeTest(unittest.TestCase):
         for where, node in self.each(ast.Name):
             self.assertFalse(node.id.startswith("__"), msg=where)
         for where, node in self.each(ast.Attribute):
-            if node.attr.startswith("__"):
+            if node.attr == "__name__":
+                self.assertRegex(ast.unparse(node), r"^[a-z_]+\.__class__\.__name__$", msg=where)
+            elif node.attr.startswith("__") and node.attr != "__class__":
                 self.assertEqual(ast.unparse(node), "super().__init__", msg=where)
+        text = "".join(ast.unparse(tree) for tree in TREES.values())
+        self.assertEqual(text.count(".__class__"), text.count(".__class__.__name__"))
 
     def test_init_returns_nothing(self):
         for where, node in self.each(ast.FunctionDef):
@@ -298,7 +307,7 @@ class CodeTest(unittest.TestCase):
     def test_class_methods_share_no_name(self):
         single = {
             node.name for _, node in self.each(ast.FunctionDef)
-            if any(one.id in ("classmethod", "staticmethod", "property") for one in node.decorator_list)
+            if decorators_of(node)
         }
         stored = {node.attr for _, node in self.each(ast.Attribute) if isinstance(node.ctx, ast.Store)}
         plain = {
@@ -306,6 +315,30 @@ class CodeTest(unittest.TestCase):
             if isinstance(one, ast.FunctionDef) and not one.decorator_list
         }
         self.assertEqual(single & (stored | plain), set())
+
+    def test_methods_and_attributes_of_all_classes(self):
+        # Allowed with care between unlike classes; the package does without.
+        methods = {
+            one.name for _, node in self.each(ast.ClassDef) for one in node.body if isinstance(one, ast.FunctionDef)
+        }
+        stored = {node.attr for _, node in self.each(ast.Attribute) if isinstance(node.ctx, ast.Store)}
+        self.assertEqual(methods & stored, set())
+
+    def test_with_blocks(self):
+        owners = {
+            node.name for _, node in self.each(ast.ClassDef)
+            if {"__enter__", "__exit__"} <= {one.name for one in node.body if isinstance(one, ast.FunctionDef)}
+        }
+        for where, node in self.each(ast.With):
+            for item in node.items:
+                self.assertIsInstance(item.context_expr, ast.Call, msg=where)
+                self.assertIn(item.context_expr.func.id, owners, msg=where)
+        for where, node in self.each(ast.FunctionDef):
+            if node.name == "__exit__":
+                self.assertEqual([one.arg for one in node.args.args], ["self", "kind", "value", "trace"], msg=where)
+                for row in node.body:
+                    self.assertIsInstance(row, ast.Assign, msg=where)
+                    self.assertIsInstance(row.value, (ast.Attribute, ast.Constant), msg=where)
 
     def test_keywords_of_builtins(self):
         allowed = {

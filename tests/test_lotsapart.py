@@ -13,7 +13,7 @@ from upsanddowns.numbers import Numbers
 from upsanddowns.webs import Web
 
 from tests.helpers import (
-    SIDES, Errors, all_kept, all_tuples, any_webs, falling_kept, higher_places, lively_kept, places_of, random_web,
+    SIDES, Errors, all_tuples, any_webs, falling_kept, higher_places, lively_kept, places_of, random_web,
     sided, told_otherwise,
 )
 

@@ -13,7 +13,7 @@ from upsanddowns.own import product_pair
 from upsanddowns.shares import Share
 from upsanddowns.webs import Web
 
-from tests.helpers import Errors, places_at, places_of, value
+from tests.helpers import Errors, places_at, value
 
 
 def growth_in(web, numbers, place=(0, 0)):

@@ -1,4 +1,3 @@
-import random
 import unittest
 from itertools import combinations, product
 from math import isqrt
@@ -13,8 +12,8 @@ from upsanddowns.systems import odd_systems, sign_of, signed_sum, square_sum, sy
 from upsanddowns.webs import Web
 
 from tests.helpers import (
-    SIDES, Errors, all_kept, all_tuples, any_webs, even_kept, lively_kept, lots_of, mult, passed, random_web,
-    reflected, sided, slow_ways, table_of, told_otherwise, unit, with_diagonal,
+    SIDES, Errors, all_kept, all_tuples, any_webs, even_kept, lots_of, mult, passed, random_web, reflected, sided,
+    slow_ways, table_of, told_otherwise, unit, with_diagonal,
 )
 
 

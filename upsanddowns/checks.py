@@ -114,7 +114,14 @@ def check_unlike(row, many):
 
 def check_sizes(sizes):
     """The sizes as a tuple, if they are a row of at least one integer, none of them below 0."""
-    if not is_row(sizes) or len(sizes) == 0:
+    if is_row(sizes) and len(sizes) == 0:
+        raise BadSize(-1)
+    return check_size_row(sizes)
+
+
+def check_size_row(sizes):
+    """The sizes as a tuple, if they are a row of integers, none of them below 0; there may be none."""
+    if not is_row(sizes):
         raise BadSize(-1)
     for rank, size in enumerate(sizes):
         if not is_count(size):

@@ -33,6 +33,11 @@ def is_whole_row(one, length):
     return is_int_row(one, length) and all([entry >= 1 for entry in one])
 
 
+def is_order(one, many):
+    """True for a list or tuple that holds each of 0 to many - 1 just once."""
+    return is_int_row(one, many) and sorted(one) == list(range(many))
+
+
 def is_count_table(one, rows, length):
     """True for so many rows, each of so many integers not below 0."""
     return is_row_of(one, rows) and all([is_count_row(row, length) for row in one])
@@ -55,6 +60,14 @@ def is_square_table(one):
 def is_number_pair(one):
     """True for a pair (q, r) of integers with q not below 0."""
     return is_int_row(one, 2) and one[0] >= 0
+
+
+def first_unlike(one, other):
+    """The least number at which two rows differ, also if only one of them goes so far, or None."""
+    for at in range(max(len(one), len(other))):
+        if at >= len(one) or at >= len(other) or one[at] != other[at]:
+            return at
+    return None
 
 
 def frozen(table):

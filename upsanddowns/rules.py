@@ -5,7 +5,7 @@ from math import factorial
 from upsanddowns.amounts import is_int, product_of
 from upsanddowns.checks import check_place_at, check_r_not_below, check_rank, check_seen
 from upsanddowns.errors import BadRule, NotPositive
-from upsanddowns.forms import is_count_row, is_int_row, is_row, is_row_of
+from upsanddowns.forms import is_count_row, is_order, is_row, is_row_of
 from upsanddowns.tables import dot, entries_of
 
 
@@ -132,11 +132,6 @@ class ShiftRule(Rule):
         pair = x * self.kept.sizes[rank] + other
         shift = row[pair % len(row)] if len(row) > 0 else 0
         return tuple([(at + shift) % many for at in range(many)])
-
-
-def is_order(row, many):
-    """True for a list or tuple that holds each of 0 to many - 1 just once."""
-    return is_int_row(row, many) and sorted(row) == list(range(many))
 
 
 def is_place(sizes, rank, place):

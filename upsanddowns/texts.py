@@ -55,7 +55,7 @@ class Reader:
 
     def __init__(self):
         self.unlike = False
-        self.told = []
+        self.told_sizes = []
         self.strands = {}
 
     def read(self, line):
@@ -72,7 +72,7 @@ class Reader:
 
     def read_unlike(self):
         """Takes the line that tells of an uneven web; it stands ahead of all others, once."""
-        if self.unlike or len(self.told) > 0:
+        if self.unlike or len(self.told_sizes) > 0:
             raise BadNumber("line")
         self.unlike = True
 
@@ -81,21 +81,21 @@ class Reader:
         if len(words) != 4 or words[2] != "size":
             raise BadNumber("line")
         rank = number_from(words[1])
-        if rank != len(self.told):
+        if rank != len(self.told_sizes):
             raise BadRank(rank)
-        self.told.append(number_from(words[3]))
+        self.told_sizes.append(number_from(words[3]))
 
     def read_strands(self, words):
         """Takes the words of a line of strands between the last rank and the one beneath it."""
         if len(words) != 4:
             raise BadNumber("line")
-        rank = len(self.told) - 1
+        rank = len(self.told_sizes) - 1
         if rank < 1:
             raise BadRank(rank)
         first, second, many = [number_from(word) for word in words[1:]]
-        if first >= self.told[rank - 1]:
+        if first >= self.told_sizes[rank - 1]:
             raise BadPlace(rank - 1, first)
-        if second >= self.told[rank]:
+        if second >= self.told_sizes[rank]:
             raise BadPlace(rank, second)
         key = (words[0], rank - 1, first, second)
         if many == 0 or key in self.strands:
@@ -106,16 +106,16 @@ class Reader:
         """The tables of one sort of strands."""
         return [
             [
-                [self.strands.get((side, rank, first, second), 0) for second in range(self.told[rank + 1])]
-                for first in range(self.told[rank])
+                [self.strands.get((side, rank, first, second), 0) for second in range(self.told_sizes[rank + 1])]
+                for first in range(self.told_sizes[rank])
             ]
-            for rank in range(len(self.told) - 1)
+            for rank in range(len(self.told_sizes) - 1)
         ]
 
     def made(self):
         """The web that the lines tell."""
         downs = self.tables_of("down") if self.unlike else None
-        return Web(self.tables_of("up"), downs=downs, sizes=self.told)
+        return Web(self.tables_of("up"), downs=downs, sizes=self.told_sizes)
 
 
 def web_from(text):
@@ -126,7 +126,7 @@ def web_from(text):
     for at, line in enumerate(text.split("\n")):
         if line != "":
             read_line(reader, line, at + 1)
-    if len(reader.told) == 0:
+    if len(reader.told_sizes) == 0:
         raise BadText(0)
     return reader.made()
 

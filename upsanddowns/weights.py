@@ -141,7 +141,7 @@ def least_of(rates):
     return {place: rates[place][0] * wholes // rates[place][1] for place in rates}
 
 
-def weights(web):
+def least_weights(web):
     """The least weights, a row for each rank, or None if the web is not balanced."""
     if one_sided(web) is not None:
         return None
@@ -156,6 +156,11 @@ def weights(web):
         tuple([found[(rank, at)] for at in range(size)])
         for rank, size in enumerate(web.sizes)
     ])
+
+
+def weights(web):
+    """The least weights, a row for each rank, or None if the web is not balanced."""
+    return least_weights(web)
 
 
 def is_balanced(web):
