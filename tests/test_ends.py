@@ -62,6 +62,11 @@ class RaisingTest(Errors, unittest.TestCase):
             self.refused(Unseen, {"rank": 3}, call, web, 2)
             self.refused(Unseen, {"rank": 3}, call, web, 2, side="downs")
 
+    def test_side_that_is_not_told(self):
+        web = Web([[[1]]], downs=[[[0]]])
+        self.assertEqual((is_one_to_one(web, 0), reaches_all(web, 0), layer_bound(web, 1)), (True, True, 1))
+        self.assertEqual((is_one_to_one(~web, 0), reaches_all(~web, 0), layer_bound(~web, 1)), (False, False, 2))
+
     def test_turning_ranks(self):
         seen = set()
         webs = [kept.web for kept in all_kept()] + [random_web(seed, [1, 2, 2, 1], 2) for seed in range(30)]

@@ -188,6 +188,10 @@ class ProductTest(Errors, unittest.TestCase):
         self.refused(BadParting, {"rank": 1}, product_parting, one, other, well, good)
         self.refused(BadParting, {"rank": 1}, product_parting, one, other, good, good)
         self.refused(BadParting, {"rank": 2}, product_parting, one, other, Parting.flat([1, 1]), good)
+        # All ranks of both webs count, also those above the top of the product.
+        higher = Web.subsets(3)
+        self.refused(BadParting, {"rank": 3}, product_parting, one, higher, good, Parting.flat([1, 3, 3]))
+        self.refused(BadParting, {"rank": 3}, product_parting, higher, one, Parting.flat([1, 3, 3]), good)
 
 
 class GoingOnTest(Errors, unittest.TestCase):

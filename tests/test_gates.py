@@ -136,6 +136,17 @@ class GatesTest(Errors, unittest.TestCase):
         self.assertEqual((ways_apart(empty, 0, [0], 2), gate(empty, 0, [0], 2), reached(empty, 0, [0, 1], 2)), ((),) * 3)
         self.assertIs(is_gate(empty, 0, [0], 2, []), True)
 
+    def test_side_that_is_not_told(self):
+        web = Web([[[1]]], downs=[[[0]]])
+        self.assertEqual(
+            (ways_apart(web, 0, [0], 1), len(gate(web, 0, [0], 1)), reached(web, 0, [0], 1), is_gate(web, 0, [0], 1, [])),
+            (((0, ((0, 0),)),), 1, (0,), False),
+        )
+        self.assertEqual(
+            (ways_apart(~web, 0, [0], 1), gate(~web, 0, [0], 1), reached(~web, 0, [0], 1), is_gate(~web, 0, [0], 1, [])),
+            ((), (), (), True),
+        )
+
     def test_many_strands(self):
         web = Web([[[0, 10 ** 12]], [[0], [10 ** 12]]])
         (start, way), = ways_apart(web, 0, [0], 2)

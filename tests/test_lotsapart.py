@@ -120,6 +120,16 @@ class OrderTest(Errors, unittest.TestCase):
         self.assertIs(is_apart(alone, [(0, 0), (1, 0)]), True)
         self.assertIs(is_apart(alone, [(0, 0), (1, 0), (2, 0)]), False)
 
+    def test_side_that_is_not_told(self):
+        web = Web([[[1]]], downs=[[[0]]])
+        both = [(0, 0), (1, 0)]
+        for one, tied in ((web, True), (~web, False)):
+            self.assertIs(comes_before(one, both[0], both[1]), tied)
+            self.assertIs(is_apart(one, both), not tied)
+            self.assertIs(is_layered(one, both, 1), not tied)
+            self.assertEqual(len(parting_rows(one)), 1 if tied else 2)
+            self.assertEqual(len(greatest_apart(one)), 1 if tied else 2)
+
     def test_refused(self):
         web = Web.shapes(3)
         for wrong in (None, 5, (1,), "00", (0, 0, 0)):

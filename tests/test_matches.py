@@ -58,6 +58,12 @@ class MatchTest(Errors, unittest.TestCase):
         self.assertEqual((match_up(empty, 1), match_down(empty, 1), match_size(empty, 1)), ((), (None,) * 3, 0))
         self.assertTrue(all_tuples(match_up(Web.shapes(4), 3)))
 
+    def test_side_that_is_not_told(self):
+        web = Web([[[1]]], downs=[[[0]]])
+        self.assertEqual((match_up(web, 0), match_down(web, 0), match_size(web, 0)), ((0,), (0,), 1))
+        self.assertEqual((match_up(web, 0, side="downs"), match_size(web, 0, side="downs")), ((None,), 0))
+        self.assertEqual(match_down(~web, 0, side="ups"), (None,))
+
     def test_lively_webs(self):
         for kept in lively_kept():
             for n in range(kept.top):

@@ -101,6 +101,9 @@ class SplitTest(Errors, unittest.TestCase):
         self.refused(Unseen, {"rank": 4}, split_shares, late, late, 0)
         self.refused(Unseen, {"rank": 4}, product_growth, late, late)
         self.refused(Unseen, {"rank": 5}, split_shares, late, shapes, 3)
+        tall = growth_in(Web.shapes(5), one)
+        self.refused(Unseen, {"rank": 4}, split_shares, tall, shapes, 4)
+        self.refused(Unseen, {"rank": 4}, split_shares, shapes, tall, 4)
         for call in (product_growth, lambda a, b: split_shares(a, b, 0)):
             self.refused(NotKept, {"rank": 1, "first": -1, "second": -1}, call, shapes, mixed)
             self.refused(NotKept, {"rank": 1, "first": -1, "second": -1}, call, mixed, shapes)

@@ -205,6 +205,12 @@ class SignsTest(Errors, unittest.TestCase):
         self.assertEqual(signed_sum(web, 2, [0, 0], 1, [1]), 1)
         self.assertEqual(signed_sum(web, 2, [0, 0], 1, [1, 1, 1]), 1)
 
+    def test_side_that_is_not_told(self):
+        web = Web([[[3]]], downs=[[[2]]])
+        self.assertEqual((signed_sum(web, 0, [0], 1, [0]), ways_table(web, 0, 1)), (3, ((3,),)))
+        self.assertEqual(len(list(systems_of(web, 0, [0], 1))), 3)
+        self.assertEqual(len(list(systems_of(web, 0, [0], 1, side="downs"))), 2)
+
     def test_refused(self):
         web = Web.shapes(3)
         self.refused(BadRank, {"rank": 4}, signed_sum, web, 4, None, -1, None)

@@ -1,7 +1,7 @@
 """The desk: a web is told, gone on, folded, asked and taken back."""
 
 from upsanddowns.amounts import check_number, is_int
-from upsanddowns.checks import check_rank, check_rank_from, check_seen, check_up_to
+from upsanddowns.checks import check_rank, check_rank_from, check_up_to
 from upsanddowns.closed import sizes_beneath
 from upsanddowns.errors import BadDeed, BadNumber, NoneSuch
 from upsanddowns.folding import folded
@@ -175,7 +175,6 @@ class Desk:
         """The number of places of a least gate between all of the rank and the other rank."""
         check_rank(self.size_row, rank)
         check_rank_from(other, rank)
-        check_seen(self.size_row, other)
         return len(gate(self.held, rank, list(range(self.size_row[rank])), other - rank))
 
     def apart(self, many=1):

@@ -37,6 +37,11 @@ def check_agree(sizes, others):
         raise BadSymmetry(rank)
 
 
+def rows_behind(rows, others):
+    """The rows of first these orders, then the other ones."""
+    return tuple([tuple([line[place] for place in row]) for row, line in zip(rows, others)])
+
+
 class Symmetry:
     """An order of the places of each rank. It never changes."""
 
@@ -65,7 +70,7 @@ class Symmetry:
     def then(self, other):
         """First this one, then the other one."""
         check_agree(self.sizes, other.sizes)
-        return Symmetry([[line[place] for place in row] for row, line in zip(self.rows, other.rows)])
+        return Symmetry(rows_behind(self.rows, other.rows))
 
     def undone(self):
         """The one that leads back."""
@@ -114,19 +119,19 @@ def group_of(symmetries, *, limit=200):
         raise BadSymmetry(-1)
     check_symmetries(symmetries, symmetries[0].sizes)
     check_number("limit", limit, 0)
-    queue = [Symmetry.still(symmetries[0].sizes)]
-    found = {queue[0].rows: True}
+    queue = [Symmetry.still(symmetries[0].sizes).rows]
+    found = {queue[0]: True}
     at = 0
     while at < len(queue) and len(queue) <= limit:
         for symmetry in symmetries:
-            more = queue[at].then(symmetry)
-            if more.rows not in found:
-                found[more.rows] = True
+            more = rows_behind(queue[at], symmetry.rows)
+            if more not in found:
+                found[more] = True
                 queue.append(more)
         at += 1
     if len(queue) > limit:
         raise TooMany(limit)
-    return tuple([Symmetry(rows) for rows in sorted(found)])
+    return tuple([Symmetry(rows) for rows in sorted(queue)])
 
 
 def orbits(symmetries, sizes):
