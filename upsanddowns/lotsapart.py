@@ -65,8 +65,8 @@ def greatest_apart(web, *, top=None, side="ups"):
     net, after, before = paired_places(web, check_top(web.sizes, top), side)
     many = len(net.places) // 2
     states = searched(net, after, before, [at for at in range(many) if after[at] == FREE])[0]
-    # Of each parting row just one place can be left as a first one of a pair, but not be come to as
-    # a last one; all others are on one side of these places.
+    # Behind a place that is left as a first one all later places are come to as last ones, so no place
+    # that is not come to so lies behind another one; of each parting row there is just one of these.
     return tuple([
         net.places[at] for at in range(many)
         if 2 * at + 1 in states and 2 * (many + at) not in states
